@@ -1,0 +1,1 @@
+"""Sheets of formulas, and what their cells are for all values of one cell."""

@@ -1,0 +1,279 @@
+"""The rules for the files of the package, as far as the syntax tree shows them."""
+
+import ast
+import builtins
+import io
+import pathlib
+import re
+import tokenize
+import unittest
+
+ROOT = pathlib.Path(__file__).resolve().parent.parent
+PACKAGE = ROOT / "allinputs"
+
+BUILTINS = set(
+    "len range enumerate zip min max sum abs sorted reversed int str bool list tuple dict set isinstance ord repr any"
+    " all divmod hasattr ValueError True False None NotImplemented KeyError".split()
+)
+LIBRARY = {
+    "heapq": {"heappush", "heappop", "heapify"},
+    "math": {"gcd", "lcm", "isqrt", "comb", "perm", "factorial"},
+    "itertools": {"product", "combinations", "permutations", "chain", "accumulate", "pairwise", "islice"},
+}
+METHODS = set(
+    "append clear copy count endswith extend find get index insert isalnum isalpha isdigit islower isspace isupper"
+    " items join keys ljust lower lstrip partition pop remove replace reverse rfind rjust rpartition rsplit rstrip"
+    " setdefault split splitlines startswith strip update upper values zfill bit_length capitalize swapcase casefold"
+    " removeprefix removesuffix isascii isdecimal isprintable".split()
+)
+DUNDERS = set(
+    "__init__ __eq__ __repr__ __str__ __len__ __add__ __radd__ __sub__ __rsub__ __mul__ __rmul__ __neg__".split()
+)
+BARRED = set(
+    "mro elements open input law version_info with_traceback add_note register attrgetter breakpoint builtins compile"
+    " copyright credits delattr dir eval exec exit gc globals help id importlib license locals methodcaller os quit"
+    " setattr super type vars sys typing enum dataclass overload contextmanager Generic Protocol ABC namedtuple".split()
+)
+ALLOWED = (
+    ast.Module, ast.Expr, ast.Constant, ast.ImportFrom, ast.alias, ast.FunctionDef, ast.arguments, ast.arg, ast.ClassDef,
+    ast.Assign, ast.If, ast.While, ast.For, ast.Return, ast.Break, ast.Continue, ast.Pass, ast.Raise, ast.Try,
+    ast.ExceptHandler, ast.Name, ast.Load, ast.Store, ast.Attribute, ast.Subscript, ast.Slice, ast.Call, ast.keyword,
+    ast.BinOp, ast.Add, ast.Sub, ast.Mult, ast.FloorDiv, ast.Mod, ast.LShift, ast.RShift, ast.BitAnd, ast.BitOr,
+    ast.UnaryOp, ast.USub, ast.Not, ast.BoolOp, ast.And, ast.Or, ast.Compare, ast.Eq, ast.NotEq, ast.Lt, ast.LtE,
+    ast.Gt, ast.GtE, ast.Is, ast.IsNot, ast.In, ast.NotIn, ast.IfExp, ast.List, ast.Tuple, ast.Dict, ast.ListComp,
+    ast.comprehension, ast.JoinedStr, ast.FormattedValue,
+)
+
+
+def sources():
+    return {path.stem: path.read_text() for path in sorted(PACKAGE.glob("*.py"))}
+
+
+def bound_names(function):
+    """The parameters and local variables of a function."""
+    names = [arg.arg for arg in function.args.args + function.args.kwonlyargs]
+    for node in ast.walk(function):
+        if isinstance(node, ast.Name) and isinstance(node.ctx, ast.Store):
+            names.append(node.id)
+    return names
+
+
+class Rules(unittest.TestCase):
+    def setUp(self):
+        self.texts = sources()
+        self.trees = {name: ast.parse(text) for name, text in self.texts.items()}
+
+    def walk(self, *kinds):
+        for name, tree in self.trees.items():
+            for node in ast.walk(tree):
+                if isinstance(node, kinds):
+                    yield f"{name}.py:{getattr(node, 'lineno', 0)}", node
+
+    def test_files(self):
+        for path in PACKAGE.iterdir():
+            if path.name != "__pycache__":
+                self.assertTrue(re.fullmatch(r"(__init__|[a-z][a-z0-9]*)\.py", path.name), path.name)
+        self.assertLessEqual(len(self.texts), 100)
+        for name, text in self.texts.items():
+            lines = text.split("\n")
+            self.assertLessEqual(len(lines) - 1, 399, name)
+            self.assertTrue(text.endswith("\n") and not text.endswith("\n\n"), name)
+            for line in lines:
+                self.assertLessEqual(len(line), 120, f"{name}: {line}")
+                self.assertTrue(all(" " <= sign <= "~" for sign in line), f"{name}: {line}")
+                self.assertEqual(line, line.rstrip(), name)
+
+    def test_only_allowed_syntax(self):
+        for place, node in self.walk(ast.AST):
+            self.assertIsInstance(node, ALLOWED, place)
+
+    def test_functions_are_short_and_plain(self):
+        for place, node in self.walk(ast.FunctionDef):
+            self.assertLessEqual(node.end_lineno - node.lineno + 1, 40, place)
+            self.assertFalse(node.decorator_list, place)
+            self.assertIsNone(node.args.vararg, place)
+            self.assertIsNone(node.args.kwarg, place)
+            if not re.fullmatch("__.*__", node.name):
+                self.assertIsNotNone(ast.get_docstring(node), place)
+            for inner in ast.walk(node):
+                self.assertTrue(inner is node or not isinstance(inner, (ast.FunctionDef, ast.ClassDef)), place)
+
+    def test_imports(self):
+        seen = {}
+        for name, tree in self.trees.items():
+            self.assertIsNotNone(ast.get_docstring(tree), name)
+            own = [node for node in tree.body if isinstance(node, ast.ImportFrom)]
+            start = tree.body.index(own[0]) if own else 1
+            self.assertEqual(start, 1, name)
+            self.assertEqual(tree.body[1:1 + len(own)], own, name)
+            seen[name] = []
+            for node in own:
+                self.assertEqual(node.level, 0, name)
+                self.check_import(name, node)
+                seen[name].append(node.module.removeprefix("allinputs."))
+            self.assertEqual([node.module for node in own], sorted(
+                [node.module for node in own], key=lambda word: (word.startswith("allinputs"), word)), name)
+        done = []
+        while len(done) < len(seen):
+            free = [name for name in seen if name not in done and all(
+                other in done or other not in seen for other in seen[name])]
+            self.assertTrue(free, f"files import from each other: {sorted(set(seen) - set(done))}")
+            done.extend(free)
+
+    def check_import(self, name, node):
+        words = re.findall(r"\w+", self.texts[name])
+        for alias in node.names:
+            self.assertIsNone(alias.asname, name)
+            self.assertGreater(words.count(alias.name), 1, f"{name}: {alias.name} is not used")
+        if node.module in LIBRARY:
+            self.assertLessEqual({alias.name for alias in node.names}, LIBRARY[node.module])
+            return
+        self.assertTrue(node.module.startswith("allinputs."), name)
+        bound = set()
+        for other in self.trees[node.module.removeprefix("allinputs.")].body:
+            if isinstance(other, (ast.FunctionDef, ast.ClassDef)):
+                bound.add(other.name)
+            elif isinstance(other, ast.Assign):
+                bound.add(other.targets[0].id)
+        self.assertLessEqual({alias.name for alias in node.names}, bound, name)
+
+    def test_module_level(self):
+        for name, tree in self.trees.items():
+            names = []
+            for node in tree.body[1:]:
+                self.assertIsInstance(node, (ast.ImportFrom, ast.FunctionDef, ast.ClassDef, ast.Assign), name)
+                if isinstance(node, ast.Assign):
+                    self.assertEqual(len(node.targets), 1, name)
+                    names.append(node.targets[0].id)
+                    for inner in ast.walk(node.value):
+                        self.assertNotIsInstance(inner, (ast.Call, ast.Name), name)
+                        self.assertTrue(inner is node.value or not isinstance(inner, (ast.List, ast.Dict)), name)
+                elif isinstance(node, ast.ImportFrom):
+                    names.extend(alias.name for alias in node.names)
+                else:
+                    names.append(node.name)
+            self.assertEqual(len(names), len(set(names)), name)
+
+    def test_names(self):
+        every = set(dir(builtins))
+        for name, tree in self.trees.items():
+            top = {node.name for node in tree.body if isinstance(node, ast.ClassDef)}
+            for node in tree.body:
+                if isinstance(node, ast.ImportFrom):
+                    top.update(alias.name for alias in node.names)
+            for node in ast.walk(tree):
+                if not isinstance(node, (ast.FunctionDef, ast.ClassDef)):
+                    continue
+                words = [node.name]
+                if isinstance(node, ast.FunctionDef):
+                    local = bound_names(node)
+                    self.assertFalse(set(local) & (top | every), f"{name}: {node.name}")
+                    words = words + local
+                for word in words:
+                    plain = word in DUNDERS or re.fullmatch(r"_?[A-Za-z][A-Za-z0-9_]*|_", word)
+                    self.assertTrue(plain, f"{name}: {word}")
+                    self.assertNotIn(word, BARRED | every, name)
+                    self.assertFalse(re.match("_(wall|pe_|dcw_|enum_|cm_|twin_re_|lay_|law_|stub_|sre|cold)", word), word)
+
+    def test_words_that_are_not_used(self):
+        for name, text in self.texts.items():
+            for token in tokenize.generate_tokens(io.StringIO(text).readline):
+                if token.type == tokenize.NAME:
+                    self.assertNotIn(token.string, BARRED | {"_wall"}, f"{name}: {token.line}")
+                    self.assertFalse(token.string.startswith("__") and token.string not in DUNDERS, name)
+
+    def test_strings(self):
+        for place, node in self.walk(ast.Constant):
+            self.assertNotIsInstance(node.value, (float, complex, bytes), place)
+            if isinstance(node.value, str):
+                self.assertNotIn("%", node.value, place)
+                self.assertNotIn("__", node.value, place)
+                self.assertFalse(re.search(r"\b(type|typing|enum|dataclass|overload)\b", node.value), place)
+        for name, text in self.texts.items():
+            for found in re.findall(r"\\(.)", text):
+                self.assertIn(found, "nt\\\"'", name)
+
+    def test_calls(self):
+        own = {node.name for _, node in self.walk(ast.FunctionDef, ast.ClassDef)}
+        classes = {node.name for _, node in self.walk(ast.ClassDef)}
+        for place, node in self.walk(ast.Call):
+            target = node.func
+            if isinstance(target, ast.Attribute):
+                self.assertIn(target.attr, own | METHODS, place)
+                if target.attr in METHODS:
+                    self.assertFalse(node.keywords, place)
+                self.assertFalse(isinstance(target.value, ast.Name) and target.value.id in classes, place)
+            else:
+                self.assertIsInstance(target, ast.Name, place)
+                if target.id in dir(builtins):
+                    self.assertIn(target.id, BUILTINS, place)
+                    self.assertFalse(node.keywords, place)
+            for argument in node.args:
+                self.assertNotIsInstance(argument, ast.Starred, place)
+
+    def test_builtin_names_that_are_read(self):
+        for place, node in self.walk(ast.Name):
+            if node.id in dir(builtins):
+                self.assertIn(node.id, BUILTINS, place)
+
+    def test_is_beside_none_and_truths(self):
+        for place, node in self.walk(ast.Compare):
+            for operator, right in zip(node.ops, node.comparators):
+                if isinstance(operator, (ast.Is, ast.IsNot)):
+                    self.assertIsInstance(right, ast.Constant, place)
+                    self.assertIn(right.value, (None, True, False), place)
+
+    def test_attributes_and_methods_have_unlike_names(self):
+        methods, attributes = set(), set()
+        for _, node in self.walk(ast.ClassDef):
+            methods.update(inner.name for inner in node.body if isinstance(inner, ast.FunctionDef))
+            for inner in node.body:
+                self.assertTrue(isinstance(inner, ast.FunctionDef) or isinstance(inner.value, ast.Constant), node.name)
+        for place, node in self.walk(ast.Attribute):
+            if isinstance(node.ctx, ast.Store):
+                self.assertIsInstance(node.value, ast.Name, place)
+                attributes.add(node.attr)
+        self.assertFalse(methods & attributes)
+        barred = set("items keys values pop update append clear extend insert remove reverse setdefault sort args encode"
+                     " decode hex format mro".split())
+        self.assertFalse(attributes & barred)
+        for place, node in self.walk(ast.Attribute):
+            if isinstance(node.ctx, ast.Load):
+                self.assertIn(node.attr, methods | attributes | METHODS, place)
+
+    def test_equality_begins_with_the_class(self):
+        for place, node in self.walk(ast.FunctionDef):
+            if node.name == "__eq__":
+                first = ast.unparse(node.body[0])
+                self.assertTrue(re.match(r"if not isinstance\(other, \w+\):\n    return False$", first) or re.match(
+                    r"return isinstance\(other, \w+\) and ", first), place)
+            if node.name in ("__str__", "__repr__"):
+                for inner in ast.walk(node):
+                    if isinstance(inner, ast.Return):
+                        self.assertIsInstance(inner.value, (ast.JoinedStr, ast.Constant), place)
+
+    def test_raised_and_caught_errors(self):
+        errors = {node.name for node in self.trees["errors"].body if isinstance(node, ast.ClassDef)}
+        for place, node in self.walk(ast.Raise):
+            if node.exc is not None:
+                self.assertIsInstance(node.exc, ast.Call, place)
+                self.assertIn(node.exc.func.id, errors, place)
+        for place, node in self.walk(ast.ExceptHandler):
+            caught = node.type.elts if isinstance(node.type, ast.Tuple) else [node.type]
+            for one in caught:
+                self.assertIn(one.id, errors | {"KeyError"}, place)
+
+    def test_underscore_is_never_read(self):
+        for place, node in self.walk(ast.Name):
+            if node.id == "_":
+                self.assertIsInstance(node.ctx, ast.Store, place)
+
+    def test_comparisons_of_order_have_no_class(self):
+        for place, node in self.walk(ast.ClassDef):
+            bases = [base.id for base in node.bases]
+            self.assertIn(bases, ([], ["SheetError"], ["ValueError"]), place)
+            self.assertFalse(node.decorator_list, place)
+
+
+if __name__ == "__main__":
+    unittest.main()
