@@ -18,8 +18,8 @@ def rounded_parts(ratios, places):
     wanted = [as_ratio(ratio) * scale for ratio in ratios]
     floors = [ratio.floor() for ratio in wanted]
     raised = {}
-    for at in _farthest(wanted, floors)[:_many_raised(wanted, floors)]:
-        raised[at] = True
+    for number in _farthest(wanted, floors)[:_many_raised(wanted, floors)]:
+        raised[number] = True
     return [Ratio(floor + 1 if at in raised else floor, scale) for at, floor in enumerate(floors)]
 
 

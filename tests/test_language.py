@@ -263,6 +263,27 @@ class Rules(unittest.TestCase):
             for one in caught:
                 self.assertIn(one.id, errors | {"KeyError"}, place)
 
+    def test_what_is_passed_is_not_changed(self):
+        changing = {"append", "extend", "insert", "pop", "remove", "reverse", "clear", "update", "setdefault"}
+        makers = (ast.List, ast.ListComp, ast.Dict)
+        for place, function in self.walk(ast.FunctionDef):
+            made = {}
+            for node in ast.walk(function):
+                if isinstance(node, ast.Assign) and isinstance(node.targets[0], ast.Name):
+                    made.setdefault(node.targets[0].id, []).append(node.value)
+            changed = set()
+            for node in ast.walk(function):
+                if isinstance(node, ast.Call) and isinstance(node.func, ast.Attribute) and node.func.attr in changing:
+                    changed.add(node.func.value.id)
+                if isinstance(node, ast.Subscript) and isinstance(node.ctx, ast.Store):
+                    changed.add(node.value.id)
+            for name in changed:
+                self.assertTrue(made.get(name), f"{place}: {name}")
+                for value in made[name]:
+                    parts = [value.left, value.right] if isinstance(value, ast.BinOp) else [value]
+                    is_call = isinstance(value, ast.Call) and value.func.id == "list"
+                    self.assertTrue(is_call or isinstance(parts[0], makers), f"{place}: {name}")
+
     def test_underscore_is_never_read(self):
         for place, node in self.walk(ast.Name):
             if node.id == "_":

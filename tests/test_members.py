@@ -211,6 +211,29 @@ class Members(Case):
         for value in NO_INTEGERS + (-1, 1001):
             self.bad(value, root.digits, value)
 
+    def test_members_near_integers(self):
+        great = 10 ** 40
+        above, below = Point(great * X * X - 4 * great - 1, 0, 3), Point(great * X * X - 4 * great + 1, 0, 3)
+        for point, floor, other in ((above, 2, -3), (below, 1, -2)):
+            one = root_member(point)
+            self.assertEqual([one.floor(), (-one).floor(), (one * 5).floor(), (one - 2).sign()],
+                             [floor, other, 10 if floor == 2 else 9, 1 if floor == 2 else -1])
+            self.assertEqual([one.compare(2), (-one).compare(-2)], [1, -1] if floor == 2 else [-1, 1])
+        self.assertEqual(root_member(above).digits(30), "2." + "0" * 30)
+        self.assertEqual((-root_member(above)).digits(30), "-2." + "0" * 30)
+        self.assertEqual(root_member(below).digits(30), "1." + "9" * 30)
+        self.assertEqual((2 - root_member(above)).digits(10), "-0." + "0" * 10)
+
+    def test_bottoms_near_0(self):
+        great = 10 ** 40
+        near = isqrt(2 * great * great)
+        one = at_root(ONE, great * X - near)
+        # 1 / (g r - n) is (g r + n) / (2 g g - n n).
+        size = 2 * great * great - near * near
+        self.assertEqual(one.floor(), (isqrt(2 * great * great) + near) // size)
+        self.assertEqual([one.sign(), at_root(ONE, great * X - near - 1).sign()], [1, -1])
+        self.assertEqual(at_root(great * X - near, great * X - near), Ratio(1))
+
     def test_unlike_curves_at_points_of_greater_degree(self):
         root = root_member(FOURTH)
         square = root * root
@@ -257,6 +280,12 @@ class Order(Case):
         self.assertEqual(order_numbers(member(points[0], even), member(points[1], even)), 0)
         self.assertEqual(order_numbers(member(points[0], odd), member(points[1], odd)), -1)
         self.assertEqual(order_numbers(member(points[0], odd), -member(points[1], odd)), 0)
+        # Conjugates that are so near to each other that they are told apart late.
+        for scale in (10 ** 6, 10 ** 30):
+            small = even * Ratio(1, scale)
+            self.assertEqual(order_numbers(member(points[0], small), member(points[1], small)), 0)
+            self.assertEqual(order_numbers(member(points[0], small), -member(points[1], small)), -1)
+            self.assertEqual(order_numbers(member(points[0], small) + 7, member(points[1], small) + 7), 0)
 
     def test_wrong_arguments(self):
         for value in NO_RATIOS + (None, ROOT, root_strand()):

@@ -50,6 +50,17 @@ class CountingRoots(Case):
         self.assertEqual(count_roots(X * X - 2, Ratio(isqrt(2 * 10 ** 80), 10 ** 40), None), 1)
         self.assertEqual(count_roots(X * X - 2, Ratio(isqrt(2 * 10 ** 80) + 1, 10 ** 40), None), 0)
 
+    def test_polys_of_the_first_degree(self):
+        for low, high, many in ((0, 1, 1), (Ratio(1, 3), 1, 0), (0, Ratio(1, 3), 0), (1, 2, 0), (-1, 0, 0), (None, 0, 0),
+                                (None, Ratio(1, 3), 0), (Ratio(1, 3), None, 0), (None, 1, 1), (0, None, 1), (None, None, 1),
+                                (Ratio(33, 100), Ratio(34, 100), 1), (5, None, 0), (None, -5, 0)):
+            for poly in (3 * X - 1, 1 - 3 * X, (3 * X - 1) * (3 * X - 1) * 5):
+                self.assertEqual(count_roots(poly, low, high), many)
+                self.assertEqual([str(point.ratio()) for point in isolate(poly, low, high)], ["1/3"] * many)
+        self.bad(1, Point, 3 * X - 1, Ratio(1, 3), 1)
+        high = Ratio(1, 3)
+        self.bad(high, Point, 3 * X - 1, 0, high)
+
     def test_known_roots(self):
         random.seed(11)
         for _ in range(150):

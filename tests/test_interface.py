@@ -1,0 +1,80 @@
+"""The interface: names, arguments, and where each is defined."""
+
+import ast
+import importlib
+import inspect
+import pathlib
+import unittest
+
+PACKAGE = pathlib.Path(__file__).resolve().parent.parent / "allinputs"
+
+# For each module the functions, and the classes with their methods.
+FUNCTIONS = {
+    "points": ["count_roots(poly, low, high)", "isolate(poly, low, high)"],
+    "curves": ["curve_text(curve)"],
+    "spans": ["roots_in(poly, span)"],
+    "strands": ["strand(curve, span)"],
+    "members": ["member(point, curve)"],
+    "numbersorder": ["order_numbers(one, other)"],
+    "values": ["is_value(thing)", "kind_of(value)", "same(one, other)"],
+    "grids": ["grid_of(thing)", "is_line(grid)"],
+    "numerals": ["number_text(ratio)", "read_number(text)"],
+    "turning": ["to_number(value)", "to_text(value)", "to_truth(value)"],
+    "ordering": ["order(one, other)", "sort_order(one, other)", "small_letters(text)"],
+    "roundings": ["rounded_parts(ratios, places)"],
+    "formats": ["shown(value, form)"],
+    "shownalike": ["bands(form, text)"],
+    "addresses": ["letters_of(column)", "column_of(letters)", "address_text(address)", "read_address(text)"],
+}
+ARITHMETIC = ["__eq__", "__add__", "__radd__", "__sub__", "__rsub__", "__mul__", "__rmul__", "__neg__"]
+CLASSES = {
+    "ratios.Ratio(top, bottom=1)": ARITHMETIC + ["inverse()", "power(exponent)", "sign()", "floor()", "compare(other)",
+                                                 "__str__"],
+    "polys.Poly(parts)": ARITHMETIC + ["degree()", "worth_at(ratio)", "slope()", "plain()", "common(other)",
+                                       "without(other)"],
+    "points.Point(poly, low, high)": ["__eq__", "compare(other)", "sign_of(poly)", "ratio()", "between(width)",
+                                      "digits(places)"],
+    "curves.Curve(top, bottom=None)": ARITHMETIC + ["inverse()", "power(exponent)", "is_level()", "worth_at(ratio)"],
+    "spans.Span(low, high)": ["__eq__", "has(ratio)", "inner()"],
+    "strands.Strand(curve, span)": ARITHMETIC + ["inverse()", "sign()", "floor()", "power(exponent)", "ratio()"],
+    "members.Member(point, curve)": ARITHMETIC + ["inverse()", "power(exponent)", "sign()", "floor()", "compare(other)",
+                                                  "ratio()", "digits(places)"],
+    "values.Fault(kind)": ["__eq__", "__str__"],
+    "grids.Grid(rows, corner=None)": ["__eq__", "value_at(row, column)", "one_row(row)", "one_column(column)", "cells()",
+                                      "turned()"],
+    "formats.Format(text)": ["__eq__"],
+    "addresses.Address(row, column, *, fixed_row=False, fixed_column=False, sheet=None)": [
+        "__eq__", "pushed(rows, columns)", "bare()"],
+}
+
+
+def defined_in(module):
+    return {node.name for node in ast.parse((PACKAGE / f"{module}.py").read_text()).body
+            if isinstance(node, (ast.FunctionDef, ast.ClassDef))}
+
+
+def arguments_of(call):
+    return str(inspect.signature(call)).replace("(self, ", "(").replace("(self)", "()")
+
+
+class Interface(unittest.TestCase):
+    def test_functions(self):
+        for module, functions in FUNCTIONS.items():
+            for text in functions:
+                name = text.partition("(")[0]
+                self.assertIn(name, defined_in(module))
+                call = getattr(importlib.import_module(f"allinputs.{module}"), name)
+                self.assertEqual(name + arguments_of(call), text)
+
+    def test_classes(self):
+        for text, methods in CLASSES.items():
+            module, _, rest = text.partition(".")
+            name, _, _ = rest.partition("(")
+            self.assertIn(name, defined_in(module))
+            made = getattr(importlib.import_module(f"allinputs.{module}"), name)
+            self.assertEqual(name + arguments_of(made.__init__), rest)
+            for method in methods:
+                word = method.partition("(")[0]
+                self.assertIn(word, vars(made), f"{name}.{method}")
+                if "(" in method:
+                    self.assertEqual(word + arguments_of(vars(made)[word]), method)
