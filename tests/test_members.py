@@ -11,6 +11,7 @@ from allinputs.numbersorder import order_numbers
 from allinputs.points import Point, isolate
 from allinputs.polys import Poly
 from allinputs.ratios import Ratio
+from allinputs.worths import worth_point
 from tests.helper import CUBE, NO_INTEGERS, NO_RATIOS, ROOT, UP, X, Case, linear, root_member, root_strand
 
 ONE = Poly([1])
@@ -244,6 +245,31 @@ class Members(Case):
         cube = root_member(CUBE)
         self.assertEqual((cube.power(2) + cube + 1) * (cube - 1), Ratio(1))
         self.assertEqual((cube - 1).inverse(), cube * cube + cube + 1)
+
+
+class Worths(Case):
+    def test_worths_as_points(self):
+        random.seed(42)
+        many = 0
+        while many < 40:
+            poly = Poly([random.randint(-9, 9) for _ in range(random.randint(3, 5))])
+            top, bottom = [Poly([random.randint(-99, 99) for _ in range(random.randint(1, 5))]) for _ in range(2)]
+            if not poly.parts or not bottom.parts:
+                continue
+            for point in isolate(poly, None, None):
+                curve = Curve(top, bottom)
+                if point.ratio() is None and point.sign_of(bottom) != 0:
+                    told = member(point, curve)
+                    if isinstance(told, Member):
+                        many = many + 1
+                        worth = worth_point(point, curve)
+                        self.assertEqual(worth.digits(25), told.digits(25))
+                        self.assertEqual(order_numbers(told, member(worth, Curve(X))), 0)
+                        self.assertIsNone(worth.ratio())
+
+    def test_roots_at_points_that_are_ratios(self):
+        self.assertIs(linear(Ratio(1, 2)).is_root_of(2 * X - 1), True)
+        self.assertIs(linear(Ratio(1, 2)).is_root_of(2 * X + 1), False)
 
 
 class Order(Case):

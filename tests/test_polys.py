@@ -223,6 +223,26 @@ class Polys(Case):
         self.assertEqual(resultant((-2, 1), (0, 0, 0, 1)), 8)
         self.assertEqual(resultant((0, 0, 0, 1), (-2, 1)), -8)
 
+    def test_resultant_by_roots(self):
+        random.seed(8)
+        for _ in range(300):
+            roots = [random.randint(-4, 4) for _ in range(random.randint(0, 5))]
+            lead = random.choice([1, -1, 3])
+            one, other = Poly([lead]), random_poly(random.randint(1, 7), 3)
+            for root in roots:
+                one = one * (X - root)
+            if random.random() < 0.5:
+                # With parts left out the degrees fall by more than one.
+                other = Poly([part for pair in other.parts for part in (pair, 0, 0)])
+            if not other.parts:
+                continue
+            expected = Fraction(lead) ** other.degree()
+            for root in roots:
+                expected = expected * worth(other.parts, root)
+            self.assertEqual(resultant(one.parts, other.parts), expected)
+            sign = -1 if one.degree() % 2 and other.degree() % 2 else 1
+            self.assertEqual(resultant(other.parts, one.parts), sign * expected)
+
     def test_nothing_changes(self):
         one, other = X * X - 1, X - 1
         one + other, one - other, one * other, -one, one.plain(), one.common(other), one.without(other), one.slope()
