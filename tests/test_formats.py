@@ -68,11 +68,11 @@ class FormatTexts(Case):
         self.fails(NotAFormat, {"at": 1000}, Format, "\"" + "a" * 999)
 
     def test_all_short_texts(self):
-        for many in range(6):
+        for many in range(5):
             for signs in product("#0,.;\"@ ", repeat=many):
                 self.check("".join(signs))
         random.seed(71)
-        for _ in range(20000):
+        for _ in range(8000):
             self.check("".join(random.choice("##00,,..;;;\"@ x$") for _ in range(random.randint(5, 14))))
 
     def check(self, text):
@@ -266,7 +266,8 @@ class Bands(Case):
                             ("#,##0", "1000"), ("#,##0", "1,00"), ("00", "3"), ("0.0", "3"), ("0.0#", "3.10"), ("0.0#", "3."),
                             ("\"a\"", "A"), ("\"a\"0", "3"), ("0\"a\"", "3"), ("0.#", "1"), ("0", "\u0663"), ("0", "\u00b2"),
                             ("0;0", "-3"), ("0", "TRUE"), ("0", "3\n"), ("0.0", "1.2.3"), ("#.#", "0.5"), ("0", "+3"),
-                            ("0", "9" * 1001), ("0", "\u00e9" * 2000), ("\"aa\"0\"aa\"", "aaa")):
+                            ("0", "9" * 1001), ("0", "\u00e9" * 2000), ("\"aa\"0\"aa\"", "aaa"),
+                            ("\"aa\"#\"aa\"", "aaa"), ("\"aa\"#", "a")):
             self.assertEqual(self.told(text, shows), [])
         self.assertEqual(len(self.told("0", "9" * 1000)), 1)
 

@@ -160,6 +160,13 @@ class Strands(Case):
             with self.assertRaises(Turns) as caught:
                 number(poly, span).floor()
             self.assertIn(caught.exception.poly, roots)
+        # One that goes beyond the next integer alone, one that falls below its own alone, one that does neither.
+        half = root_strand(Span(Ratio(3, 4), Ratio(7, 4))) + Ratio(1, 2)
+        self.turns(2 * X - 3, half.floor)
+        self.turns(2 * X - 1, (root_strand(Span(Ratio(1, 4), Ratio(5, 4))) + Ratio(1, 2)).floor)
+        self.assertEqual((root_strand(Span(Ratio(3, 4), Ratio(5, 4))) + Ratio(1, 2)).floor(), 1)
+        self.assertEqual((root_strand(Span(Ratio(1, 2), Ratio(3, 2))) + Ratio(1, 2)).floor(), 1)
+        self.assertEqual((root_strand(Span(Ratio(1, 2), Ratio(3, 2))) - Ratio(5, 2)).floor(), -2)
         # A floor that holds but for one place, at which the strand touches an integer.
         self.turns(X, number(-X * X, Span(Ratio(-1, 2), Ratio(1, 2))).floor)
         self.turns(X, number(X * X, WIDE, X * X + 1).floor)
