@@ -85,7 +85,7 @@ class Poly:
         return poly_of(quotient)
 
     def __repr__(self):
-        return f"Poly([{', '.join([digit_text(part) for part in self.parts])}])"
+        return f"Poly([{_digits_of(self.parts)}])"
 
 
 def poly_of(parts):
@@ -106,6 +106,11 @@ def check_some_poly(value):
     check_poly(value)
     if not value.parts:
         raise BadValue(value)
+
+
+def _digits_of(parts):
+    """The digits of all parts."""
+    return ", ".join([digit_text(part) for part in parts])
 
 
 def _parts_beside(other):

@@ -68,7 +68,7 @@ class FormatTexts(Case):
         self.fails(NotAFormat, {"at": 1000}, Format, "\"" + "a" * 999)
 
     def test_all_short_texts(self):
-        for many in range(5):
+        for many in range(6):
             for signs in product("#0,.;\"@ ", repeat=many):
                 self.check("".join(signs))
         random.seed(71)
@@ -274,19 +274,17 @@ class Bands(Case):
     def test_each_number_is_in_the_bands_of_its_text(self):
         random.seed(73)
         sections = ["0", "#", "0.0", "0.#", "#,##0", "00", "0,", "\"a\"", "", "-0", "(0)", "\"0\"", "#.#", "0.0#", "\"-\"#", "-"]
-        numbers = [Ratio(top, 40) for top in range(-130, 131)] + [Ratio(top) for top in (-1500, -1499, -500, 500, 999, 1000)]
+        numbers = [Ratio(top, 40) for top in range(-90, 91)] + [Ratio(top) for top in (-1500, -1499, -500, 500, 999, 1000)]
         for _ in range(150):
             text = ";".join(random.choice(sections) for _ in range(random.randint(1, 3)))
             form = Format(text)
-            shows = {}
-            for number in numbers:
-                shows.setdefault(shown(number, form), []).append(number)
-            for told in list(shows) + ["0", "-0", "1", "", "-", "a"]:
+            shows = [shown(number, form) for number in numbers]
+            for told in sorted(set(shows) | {"0", "-0", "1", "", "-", "a"}):
                 found = bands(form, told)
-                for number in numbers:
-                    inside = [band for band in found if self.is_in(number, band)]
-                    self.assertEqual(len(inside), int(shown(number, form) == told), (text, told, str(number)))
                 self.check_apart(found)
+                for number, show_of in zip(numbers, shows):
+                    inside = [band for band in found if self.is_in(number, band)]
+                    self.assertEqual(len(inside), int(show_of == told), (text, told, str(number)))
 
     def is_in(self, number, band):
         low, high, low_in, high_in = band

@@ -163,6 +163,7 @@ class Strands(Case):
         # One that goes beyond the next integer alone, one that falls below its own alone, one that does neither.
         half = root_strand(Span(Ratio(3, 4), Ratio(7, 4))) + Ratio(1, 2)
         self.turns(2 * X - 3, half.floor)
+        self.turns(3 * X - 5, (root_strand(Span(Ratio(5, 6), Ratio(7, 4))) + Ratio(1, 3)).floor)
         self.turns(2 * X - 1, (root_strand(Span(Ratio(1, 4), Ratio(5, 4))) + Ratio(1, 2)).floor)
         self.assertEqual((root_strand(Span(Ratio(3, 4), Ratio(5, 4))) + Ratio(1, 2)).floor(), 1)
         self.assertEqual((root_strand(Span(Ratio(1, 2), Ratio(3, 2))) + Ratio(1, 2)).floor(), 1)
