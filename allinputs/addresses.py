@@ -90,7 +90,7 @@ def read_address(text):
     sheet, mark, cell = text.rpartition("!")
     if mark and not is_sheet_name(sheet):
         raise NotAName(text)
-    letters, fixed_column, digits, fixed_row = _split_cell(cell)
+    letters, fixed_column, digits, fixed_row = split_cell(cell)
     if not is_column_text(letters) or not is_row_text(digits):
         raise NotAName(text)
     return Address(
@@ -105,6 +105,20 @@ def read_address(text):
 def is_on_grid(row, column):
     """Whether there is a cell in a row and a column."""
     return 1 <= row <= ROWS and 1 <= column <= COLUMNS
+
+
+def marked_address(row, column, sheet):
+    """The Address of a row and a column, each told as the pair of its number and whether it is fixed."""
+    return Address(row[0], column[0], fixed_row=row[1], fixed_column=column[1], sheet=sheet)
+
+
+def placed(address, row, column):
+    """An Address in another row and column, with the marks and the sheet of one; None off the grid."""
+    if not is_on_grid(row, column):
+        return None
+    return Address(
+        row, column, fixed_row=address.fixed_row, fixed_column=address.fixed_column, sheet=address.sheet,
+    )
 
 
 def is_sheet_name(name):
@@ -138,7 +152,7 @@ def is_row_text(text):
     return text[0] != "0" and int(text) <= ROWS
 
 
-def _split_cell(text):
+def split_cell(text):
     """The letters of a text, whether "$" is ahead of them, what is behind them, and whether "$" is ahead of it."""
     fixed_column = text.startswith("$")
     column = text.removeprefix("$")

@@ -17,7 +17,7 @@ class Grid:
                 raise BadValue(row)
         if not _is_table(rows):
             raise BadValue(rows)
-        if corner is not None and not _is_corner(corner):
+        if corner is not None and not is_corner(corner):
             raise BadValue(corner)
         self.rows = tuple([tuple(row) for row in rows])
         self.height = len(self.rows)
@@ -50,6 +50,16 @@ class Grid:
     def turned(self):
         """The grid with rows and columns exchanged."""
         return Grid([tuple([row[at] for row in self.rows]) for at in range(self.width)])
+
+
+def made_grid(rows, corner):
+    """The Grid of a tuple of tuples that are known to be rows of values: they are not looked at again."""
+    grid = Grid(((None,),))
+    grid.rows = rows
+    grid.height = len(rows)
+    grid.width = len(rows[0])
+    grid.corner = corner
+    return grid
 
 
 def grid_of(thing):
@@ -87,7 +97,7 @@ def _is_table(rows):
     return all([len(row) == len(rows[0]) for row in rows])
 
 
-def _is_corner(corner):
+def is_corner(corner):
     """Whether something is a pair of integers from 1 on."""
     if not isinstance(corner, (list, tuple)) or len(corner) != 2:
         return False

@@ -34,7 +34,7 @@ def product_of(one, other):
     """The parts of the product of two polys."""
     if not one or not other:
         return ()
-    product = [0] * (len(one) + len(other) - 1)
+    product = [0 for _ in range(len(one) + len(other) - 1)]
     for first, part in enumerate(one):
         if part != 0:
             for second, factor in enumerate(other):
@@ -75,7 +75,7 @@ def quotient_of(parts, divisor):
     if many <= 0:
         return None if parts else ()
     left = list(parts)
-    quotient = [0] * many
+    quotient = [0 for _ in range(many)]
     for at in range(many - 1, -1, -1):
         head, rest = divmod(left[at + len(divisor) - 1], divisor[-1])
         if rest != 0:

@@ -41,8 +41,10 @@ ALLOWED = (
     ast.BinOp, ast.Add, ast.Sub, ast.Mult, ast.FloorDiv, ast.Mod, ast.LShift, ast.RShift, ast.BitAnd, ast.BitOr,
     ast.UnaryOp, ast.USub, ast.Not, ast.BoolOp, ast.And, ast.Or, ast.Compare, ast.Eq, ast.NotEq, ast.Lt, ast.LtE,
     ast.Gt, ast.GtE, ast.Is, ast.IsNot, ast.In, ast.NotIn, ast.IfExp, ast.List, ast.Tuple, ast.Dict, ast.ListComp,
-    ast.comprehension, ast.JoinedStr, ast.FormattedValue,
+    ast.comprehension, ast.JoinedStr, ast.FormattedValue, ast.DictComp, ast.Delete, ast.Del,
 )
+CHANGING = {"append", "extend", "insert", "pop", "remove", "reverse", "clear", "update", "setdefault", "add", "discard"}
+HEAPS = {"heappush", "heappop", "heapify"}
 
 
 def sources():
@@ -56,6 +58,112 @@ def bound_names(function):
         if isinstance(node, ast.Name) and isinstance(node.ctx, ast.Store):
             names.append(node.id)
     return names
+
+
+def assigned_in(function):
+    """A dict from the local names of a function to all that is assigned to them; None for a loop's or a tuple's."""
+    made = {}
+    for node in ast.walk(function):
+        if isinstance(node, ast.Assign):
+            for target in node.targets:
+                for inner in ast.walk(target):
+                    if isinstance(inner, ast.Name) and isinstance(inner.ctx, ast.Store):
+                        made.setdefault(inner.id, []).append(node.value if inner is target else None)
+        elif isinstance(node, ast.For):
+            for inner in ast.walk(node.target):
+                if isinstance(inner, ast.Name):
+                    made.setdefault(inner.id, []).append(None)
+    for argument in function.args.args + function.args.kwonlyargs:
+        made.setdefault(argument.arg, []).append(None)
+    return made
+
+
+def changed_in(function):
+    """The lists and dicts that a function changes: names and attributes."""
+    found = []
+    for node in ast.walk(function):
+        target = None
+        if isinstance(node, ast.Call) and isinstance(node.func, ast.Attribute) and node.func.attr in CHANGING:
+            target = node.func.value
+        elif isinstance(node, ast.Call) and isinstance(node.func, ast.Name) and node.func.id in HEAPS:
+            target = node.args[0]
+        elif isinstance(node, ast.Subscript) and isinstance(node.ctx, (ast.Store, ast.Del)):
+            target = node.value
+        if isinstance(target, ast.Call) and target.func.attr == "setdefault":
+            target = None
+        if target is not None:
+            found.append(target)
+    return found
+
+
+def is_new(value, made, is_strict):
+    """Whether an expression makes a new list or dict; strictly, also both parts of a sum do."""
+    if isinstance(value, (ast.List, ast.ListComp, ast.Dict, ast.DictComp)):
+        return True
+    if isinstance(value, ast.Call):
+        return isinstance(value.func, ast.Name) and value.func.id in ("list", "dict", "sorted")
+    if isinstance(value, ast.Subscript):
+        return isinstance(value.slice, ast.Slice)
+    if isinstance(value, ast.BinOp) and isinstance(value.op, ast.Add):
+        both = [is_new(part, made, is_strict) or is_new_name(part, made) for part in (value.left, value.right)]
+        return all(both) if is_strict else any(both)
+    return False
+
+
+def is_new_name(part, made):
+    """Whether a part of a sum is a name that is only assigned new lists."""
+    if not isinstance(part, ast.Name) or not made.get(part.id):
+        return False
+    return all(isinstance(value, (ast.List, ast.ListComp)) or is_new(value, {}, True) for value in made[part.id])
+
+
+def run_by_operators(trees):
+    """The functions that operators, equalities and texts of objects run, by bare names: pairs of a place and a node."""
+    functions = {}
+    starts = []
+    for name, tree in trees.items():
+        for node in ast.walk(tree):
+            if isinstance(node, ast.FunctionDef):
+                functions.setdefault(node.name, []).append((f"{name}.py:{node.lineno}", node))
+                if re.fullmatch("__.*__", node.name) and node.name != "__init__":
+                    starts.append(node.name)
+            elif isinstance(node, ast.ClassDef):
+                for inner in node.body:
+                    if isinstance(inner, ast.FunctionDef) and inner.name == "__init__":
+                        functions.setdefault(node.name, []).append((f"{name}.py:{inner.lineno}", inner))
+    seen, found = set(), []
+    while starts:
+        word = starts.pop()
+        if word in seen:
+            continue
+        seen.add(word)
+        for place, node in functions.get(word, []):
+            found.append((place, node))
+            for inner in ast.walk(node):
+                if isinstance(inner, ast.Call):
+                    starts.append(inner.func.id if isinstance(inner.func, ast.Name) else inner.func.attr)
+    return found
+
+
+def wrong_in_operators(trees):
+    """The places at which what operators run may change something that it did not make."""
+    wrong = []
+    for place, function in run_by_operators(trees):
+        made = assigned_in(function)
+        for target in changed_in(function):
+            values = made.get(target.id, [None]) if isinstance(target, ast.Name) else [None]
+            if not all(value is not None and is_new(value, made, True) for value in values):
+                wrong.append(f"{place}: {ast.unparse(target)}")
+        for node in ast.walk(function):
+            if isinstance(node, ast.Attribute) and isinstance(node.ctx, ast.Store):
+                values = made.get(node.value.id, [None])
+                is_made = all(isinstance(value, ast.Call) and value.func.id[0].isupper() for value in values if value)
+                is_own = function.name == "__init__" and node.value.id == "self"
+                if not is_own and (not is_made or None in values):
+                    wrong.append(f"{place}: {ast.unparse(node)}")
+            if isinstance(node, (ast.AugAssign, ast.Global, ast.Nonlocal, ast.Delete)):
+                wrong.append(f"{place}: {ast.unparse(node)}")
+    return wrong
 
 
 class Rules(unittest.TestCase):
@@ -139,19 +247,22 @@ class Rules(unittest.TestCase):
 
     def test_module_level(self):
         for name, tree in self.trees.items():
-            names = []
+            names, functions = [], set()
             for node in tree.body[1:]:
                 self.assertIsInstance(node, (ast.ImportFrom, ast.FunctionDef, ast.ClassDef, ast.Assign), name)
                 if isinstance(node, ast.Assign):
                     self.assertEqual(len(node.targets), 1, name)
                     names.append(node.targets[0].id)
                     for inner in ast.walk(node.value):
-                        self.assertNotIsInstance(inner, (ast.Call, ast.Name), name)
+                        self.assertNotIsInstance(inner, ast.Call, name)
+                        if isinstance(inner, ast.Name) and isinstance(inner.ctx, ast.Load):
+                            self.assertIn(inner.id, functions, name)
                         self.assertTrue(inner is node.value or not isinstance(inner, (ast.List, ast.Dict)), name)
                 elif isinstance(node, ast.ImportFrom):
                     names.extend(alias.name for alias in node.names)
                 else:
                     names.append(node.name)
+                    functions.add(node.name)
             self.assertEqual(len(names), len(set(names)), name)
 
     def test_names(self):
@@ -264,25 +375,45 @@ class Rules(unittest.TestCase):
                 self.assertIn(one.id, errors | {"KeyError"}, place)
 
     def test_what_is_passed_is_not_changed(self):
-        changing = {"append", "extend", "insert", "pop", "remove", "reverse", "clear", "update", "setdefault"}
-        makers = (ast.List, ast.ListComp, ast.Dict)
         for place, function in self.walk(ast.FunctionDef):
-            made = {}
+            made = assigned_in(function)
+            for target in changed_in(function):
+                if isinstance(target, ast.Attribute):
+                    # An object may change its own lists and dicts.
+                    self.assertEqual(ast.unparse(target.value), "self", place)
+                else:
+                    self.assertTrue(made.get(target.id), f"{place}: {target.id}")
+                    for value in made[target.id]:
+                        self.assertTrue(is_new(value, made, False), f"{place}: {target.id}")
+
+    def test_attributes_are_set_by_their_owners(self):
+        # What else sets attributes of others: objects that it has just made, and books, which change.
+        others = {"lowest_ratio", "poly_of", "made_grid", "copied", "put_held", "state_of"}
+        for place, function in self.walk(ast.FunctionDef):
             for node in ast.walk(function):
-                if isinstance(node, ast.Assign) and isinstance(node.targets[0], ast.Name):
-                    made.setdefault(node.targets[0].id, []).append(node.value)
-            changed = set()
-            for node in ast.walk(function):
-                if isinstance(node, ast.Call) and isinstance(node.func, ast.Attribute) and node.func.attr in changing:
-                    changed.add(node.func.value.id)
-                if isinstance(node, ast.Subscript) and isinstance(node.ctx, ast.Store):
-                    changed.add(node.value.id)
-            for name in changed:
-                self.assertTrue(made.get(name), f"{place}: {name}")
-                for value in made[name]:
-                    parts = [value.left, value.right] if isinstance(value, ast.BinOp) else [value]
-                    is_call = isinstance(value, ast.Call) and value.func.id == "list"
-                    self.assertTrue(is_call or isinstance(parts[0], makers), f"{place}: {name}")
+                if isinstance(node, ast.Attribute) and isinstance(node.ctx, ast.Store):
+                    is_own = node.value.id == "self" and function.args.args[0].arg == "self"
+                    self.assertTrue(is_own or function.name in others, f"{place}: {node.attr}")
+
+    def test_what_operators_run_changes_nothing(self):
+        wrong = wrong_in_operators(self.trees)
+        self.assertEqual(wrong, [])
+
+    def test_what_operators_run_is_looked_at(self):
+        # A list made by the sign "*", whose items are stored in what an operator or an equality runs, is found.
+        for change in ("row = [0] * 3", "row = other", "row = [1] + other", "row = [0] * len(other)", "row = self.rows"):
+            for first in ("__add__", "__eq__"):
+                text = (f"class Box:\n    def {first}(self, other):\n        return step(other)\n"
+                        f"def step(other):\n    return store(other)\n"
+                        f"def store(other):\n    {change}\n    row[0] = 1\n    return row\n")
+                self.assertEqual(len(wrong_in_operators({"box": ast.parse(text)})), 1, text)
+        for change in ("row = [0 for _ in range(3)]", "row = list(other)", "row = [1]", "row = [1] + list(other)",
+                       "row = other[1:]", "row = {}", "row = sorted(other)"):
+            text = (f"class Box:\n    def __eq__(self, other):\n        return store(other)\n"
+                    f"def store(other):\n    {change}\n    row[0] = 1\n    return row\n")
+            self.assertEqual(wrong_in_operators({"box": ast.parse(text)}), [], text)
+        text = "class Box:\n    def __neg__(self):\n        return self.turn()\n    def turn(self):\n        self.n = 1\n"
+        self.assertEqual(len(wrong_in_operators({"box": ast.parse(text)})), 1)
 
     def test_underscore_is_never_read(self):
         for place, node in self.walk(ast.Name):
