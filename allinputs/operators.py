@@ -3,7 +3,7 @@
 from allinputs.errors import BadValue, TooHigh
 from allinputs.grids import Grid
 from allinputs.ordering import order
-from allinputs.places import first_fault, text_told, texts_of, whole_within
+from allinputs.places import first_fault, text_told, turned_places, whole_within
 from allinputs.ratios import Ratio
 from allinputs.turning import to_number
 from allinputs.values import Fault, check_value
@@ -40,10 +40,10 @@ def operated(sign, one, other):
         return order(one, other) in _ORDERS[sign]
     if sign == "&":
         return _together(one, other)
-    left, right = to_number(one), to_number(other)
-    fault = first_fault((left, right))
-    if fault is not None:
-        return fault
+    numbers = turned_places("xy", (one, other))
+    if isinstance(numbers, Fault):
+        return numbers
+    left, right = numbers
     if sign == "+":
         return checked(left + right)
     if sign == "-":
@@ -82,5 +82,5 @@ def checked(result):
 
 def _together(one, other):
     """The text of one value and behind it that of another one, or a Fault."""
-    texts = texts_of((one, other))
+    texts = turned_places("st", (one, other))
     return texts if isinstance(texts, Fault) else text_told(texts[0] + texts[1])

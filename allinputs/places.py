@@ -3,7 +3,7 @@
 from allinputs.grids import Grid, grid_of
 from allinputs.ratios import Ratio
 from allinputs.turning import to_number, to_text, to_truth
-from allinputs.values import MOST_CHARACTERS, Fault, compare_numbers, is_number
+from allinputs.values import MOST_CHARACTERS, Fault, compare_numbers
 
 
 def first_fault(things):
@@ -24,23 +24,13 @@ def first_fault_within(things):
 
 
 def turned_places(letters, arguments):
-    """The list of the arguments, turned as the letters of their places tell, or the first Fault that comes out.
-
-    Only the fault VALUE comes out of turning. So texts are turned last: a call does not need the text of a number
-    if another argument leads to this fault anyway.
-    """
-    fresh = [_turned(letter, thing) for letter, thing in zip(letters, arguments)]
-    fault = first_fault([thing for letter, thing in zip(letters, fresh) if letter not in "abvw"])
-    if fault is not None:
-        return fault
-    texts = texts_of([thing for letter, thing in zip(letters, fresh) if letter in "stu"])
-    if isinstance(texts, Fault):
-        return texts
+    """The list of the arguments, turned as the letters of their places tell, or the first Fault that comes out."""
     told = []
-    many = 0
-    for letter, thing in zip(letters, fresh):
-        told.append(texts[many] if letter in "stu" else thing)
-        many = many + (1 if letter in "stu" else 0)
+    for letter, thing in zip(letters, arguments):
+        fresh = _turned(letter, thing)
+        if letter not in "abvw" and isinstance(fresh, Fault):
+            return fresh
+        told.append(fresh)
     return told
 
 
@@ -50,20 +40,12 @@ def ready(letters, arguments):
     return turned_places(letters, arguments) if fault is None else fault
 
 
-def texts_of(values):
-    """The list of the texts of some values, or the first Fault that comes out.
-
-    A number that is no told ratio has no text that could be needed if another value leads to a fault.
-    """
-    told = [value if is_number(value) and not isinstance(value, Ratio) else to_text(value) for value in values]
-    fault = first_fault(told)
-    return [to_text(value) for value in told] if fault is None else fault
-
-
 def _turned(letter, thing):
-    """An argument, turned into a number, a truth or a grid if the letter of its place asks for it."""
+    """An argument, turned into what the letter of its place asks for."""
     if letter in "xyijkd":
         return to_number(thing)
+    if letter in "stu":
+        return to_text(thing)
     if letter == "p":
         return to_truth(thing)
     return grid_of(thing) if letter in "gh" else thing

@@ -2,10 +2,9 @@
 
 from allinputs.errors import NotAFormat
 from allinputs.formats import Format, shown
-from allinputs.grids import Grid
-from allinputs.places import first_fault_within, given, ready, text_told, texts_of, whole_within
+from allinputs.grids import grid_of
+from allinputs.places import first_fault_within, given, ready, text_told, turned_places, whole_within
 from allinputs.ratios import Ratio
-from allinputs.turning import to_truth
 from allinputs.values import MOST_CHARACTERS, Fault
 
 
@@ -149,17 +148,12 @@ def _text_join(things):
     fault = first_fault_within(things)
     if fault is not None:
         return fault
-    leaves_empty = to_truth(things[1])
-    values = [things[0]]
-    for thing in things[2:]:
-        values.extend(thing.cells() if isinstance(thing, Grid) else [thing])
-    texts = texts_of(values) if not isinstance(leaves_empty, Fault) else leaves_empty
-    if isinstance(texts, Fault):
-        return texts
-    joined = texts[1:]
-    if leaves_empty:
-        joined = [text for text in joined if text != ""]
-    return text_told(texts[0].join(joined))
+    values = [value for thing in things[2:] for value in grid_of(thing).cells()]
+    told = turned_places("sp" + "t" * len(values), things[:2] + values)
+    if isinstance(told, Fault):
+        return told
+    joined = [text for text in told[2:] if text != "" or not told[1]]
+    return text_told(told[0].join(joined))
 
 
 def _value(things):

@@ -61,13 +61,110 @@ raises NotANumber(at=2)
 >>> [same("a", "A"), order("a", "A"), same(Fault("NA"), Fault("NA")), Grid([[True]]) == grid_of(True)]
 [False, 0, True, True]
 """,
-    # behind [101], what addresses.py alone is needed for
+    # behind [101]
     r"""
 >>> from allinputs.addresses import Address, address_text, column_of, letters_of, read_address
+>>> from allinputs.areas import Area, area_text, read_area
 >>> [letters_of(1), letters_of(27), letters_of(703), column_of("zz"), address_text(Address(7, 2, fixed_row=True)), read_address("sheet1!$b7").fixed_column]
 ['A', 'AA', 'AAA', 702, 'B$7', True]
+>>> [area_text(read_area("C5:$A2")), area_text(read_area("2:$1")), area_text(read_area("b:b")), area_text(read_area("$C4:C$4")), area_text(read_area("C4:C4"))]
+['$A2:C5', '$1:2', 'B:B', '$C$4:C4', 'C4']
+>>> [area_text(part) for part in read_area("B:D").without(read_area("$C2:Z9"))]
+['B1:D1', 'B10:D1000000', 'B2:B9']
+>>> [area_text(read_area("B:D").common(read_area("tax!2:5"))), read_area("A1:C3").common(read_area("D4")), read_area("2:5").height, read_area("2:5").width]
+['tax!B2:D5', None, 4, 18278]
 >>> Address(1, 18278).pushed(0, 1)
 raises OffGrid(row=1, column=18279)
+""",
+    # behind [104]
+    r"""
+>>> from allinputs.parser import read_formula
+>>> from allinputs.printer import formula_relative, formula_text
+>>> from allinputs.trees import moved
+>>> formula = read_formula("= -a1^2 & \"x\"")
+>>> [formula == ("&", ("^", ("minus", ("cell", Address(1, 1))), ("number", Ratio(2))), ("text", "x")), formula_text(formula)]
+[True, '=-A1^2&"x"']
+>>> formula = read_formula("=$A1+B3*rate")
+>>> [formula_relative(formula, Address(2, 2)), formula_text(moved(formula, -1, 0))]
+['=R[-1]C1+R[1]C*rate', '=#REF+B2*rate']
+>>> read_formula("=SUM(A1:B2")
+raises NotAFormula(at=10)
+""",
+    # behind [109]
+    r"""
+>>> from allinputs.functions import call, wanted
+>>> from allinputs.signatures import place_sort, takes
+>>> from allinputs.operators import negated, operate
+>>> from allinputs.criteria import fits, meets
+>>> number = Ratio(5, 2)
+>>> [to_text(value) for value in (operate("/", "7", True), operate("&", number, None), operate("^", number, Ratio(-1)), negated("1/3"))]
+['7', '2.5', '0.4', '-1/3']
+>>> grid = Grid([[Ratio(3), "5"], [None, True], [Ratio(-1), Ratio(3)]])
+>>> [to_text(call(name, [grid])) for name in ("SUM", "COUNT", "COUNTA", "MEDIAN", "MAX", "ROWS")]
+['5', '3', '5', '3', '3', '3']
+>>> [to_text(call("SUM", ["5", True, grid])), call("SUM", ["x", Fault("NA")]) == Fault("NA"), to_text(call("RANK", [Ratio(3), grid]))]
+['11', True, '1']
+>>> [meets("Anna", "a*a"), meets(Ratio(3), ">=2.5"), meets(None, "="), meets("5", "5"), fits("a?b", "a~?B")]
+[True, True, True, False, True]
+>>> line = Grid([[Ratio(1), Ratio(4), "x", Ratio(9)]])
+>>> [to_text(call("MATCH", [Ratio(5), line])), call("MATCH", [Ratio(5), line, Ratio(0)]) == Fault("NA"), call("INDEX", [line, Ratio(3)])]
+['2', True, 'x']
+>>> [to_text(call("DATE", [Ratio(2024), Ratio(14), Ratio(0)])), to_text(call("ROUND", [Ratio(-5, 2)])), to_text(call("SUMIF", [grid, ">0"]))]
+['45687', '-3', '6']
+>>> [wanted("IF", 3, {0: False}), wanted("IF", 2, {0: False}), place_sort("IF", 3, 1), place_sort("SUM", 9, 7), place_sort("SWITCH", 4, 3), takes("SWITCH")]
+[2, None, 'free', 'wide', 'free', (3, None)]
+""",
+    # behind [113]
+    r"""
+>>> from allinputs.book import Book
+>>> from allinputs.webs import hangs_on, rings, seen_by
+>>> from allinputs.working import last_worked
+>>> book = Book()
+>>> [book.put("A1", "2"), book.put("A2", "=A1*rate"), book.put("B1", "=SUM(A:A)"), book.define("Rate", "A4+1")]
+[None, None, None, None]
+>>> [book.names(), str(book.value_of("A2")), str(book.value_of("b1")), last_worked(book), seen_by(book, "A2")]
+[{'rate': 'Sheet1!$A$4+1'}, '2', '4', ('Sheet1!A2', 'Sheet1!B1'), ('Sheet1!A1', 'Sheet1!A4')]
+>>> [book.put("A4", "'5"), book.text_of("A4"), str(book.value_of("A2")), book.put("A1", 2), last_worked(book), hangs_on(book, "B1")]
+[None, "'5", '12', None, (), ('Sheet1!A2',)]
+>>> [book.put("A1", "=C1"), book.put("C1", "=$B$1/0"), rings(book), str(book.value_of("A2")), last_worked(book)]
+[None, None, (('Sheet1!A1', 'Sheet1!B1', 'Sheet1!C1', 'Sheet1!A2'),), '#RING', ('Sheet1!A1', 'Sheet1!B1', 'Sheet1!C1', 'Sheet1!A2')]
+""",
+    # behind [114]
+    r"""
+>>> from allinputs.arrays import part_at, stretched
+>>> from allinputs.spills import reach_at, spill_area, spilled_from
+>>> [stretched([Grid([[True], [False]]), Grid([["a", "b", "c"]])]), part_at(Grid([["a", "b"]]), 9, 2)]
+[(2, 3), 'b']
+>>> book = Book()
+>>> [book.put("A1", "=SEQUENCE(3)"), book.put("C1", "=A1#*{10,20}"), book.put("B2", "=SUM(C1#)")]
+[None, None, None]
+>>> [str(book.value_of("B2")), str(book.value_of("D3")), reach_at(book, "C1"), spill_area(book, "C1"), spilled_from(book, "A3"), hangs_on(book, "B2")]
+['180', '60', (3, 2), 'Sheet1!C1:D3', 'Sheet1!A1', ('Sheet1!C1',)]
+>>> [book.put("D2", "x"), str(book.value_of("B2")), book.value_of("D3"), book.put("D2", ""), str(book.value_of("D2"))]
+[None, '#SPILL', None, None, '40']
+""",
+    # behind [118]
+    r"""
+>>> from allinputs.filling import fill_cells
+>>> from allinputs.moving import copy_cells, move_cells
+>>> from allinputs.sorting import sort_rows
+>>> from allinputs.structure import delete_rows, insert_rows, open_cells
+>>> book = Book()
+>>> [book.put("A1", "2"), book.put("A2", "3"), book.put("A3", "=SUM(A1:A2)*A$1")]
+[None, None, None]
+>>> [insert_rows(book, "sheet1", 2, 2), book.text_of("A5"), str(book.value_of("A5"))]
+[None, '=SUM(A1:A4)*A$1', '10']
+>>> [copy_cells(book, "A5", "C6"), book.text_of("C6"), move_cells(book, "A4:A5", "D1"), book.text_of("D2"), book.text_of("C6")]
+[None, '=SUM(C2:C5)*C$1', None, '=SUM(A1:A4)*A$1', '=SUM(C2:C5)*C$1']
+>>> [delete_rows(book, "Sheet1", 1, 1), book.text_of("D1"), book.text_of("C5")]
+[None, '=SUM(A1:A3)*#REF', '=SUM(C1:C4)*#REF']
+>>> book = Book()
+>>> [book.put("A1", "1"), book.put("A2", "2"), book.put("A3", "4"), book.put("B1", "=A1*A$1"), fill_cells(book, "A1:A3", "A1:A5"), fill_cells(book, "B1", "B1:B3")]
+[None, None, None, None, None, None]
+>>> [book.text_of(place) for place in ("A4", "A5", "B2", "B3")]
+['16/3', '41/6', '=A2*A$1', '=A3*A$1']
+>>> [sort_rows(book, "A1:A3", [(1, True)]), [book.text_of(place) for place in ("A1", "A2", "A3")], open_cells(book, "A2", down=False), book.text_of("B2"), book.text_of("C2")]
+[None, ['4', '2', '1'], None, '2', '=B2*A$1']
 """,
     # behind [134], what formats.py alone is needed for
     r"""

@@ -25,6 +25,26 @@ FUNCTIONS = {
     "formats": ["shown(value, form)"],
     "shownalike": ["bands(form, text)"],
     "addresses": ["letters_of(column)", "column_of(letters)", "address_text(address)", "read_address(text)"],
+    "areas": ["area_text(area)", "read_area(text)"],
+    "parser": ["read_formula(text)", "read_relative_formula(text, base)"],
+    "trees": ["is_formula(value)", "height(formula)", "references(formula)", "with_references(formula, nodes)",
+              "moved(formula, rows, columns)"],
+    "printer": ["formula_text(formula)", "formula_relative(formula, base)"],
+    "criteria": ["fits(text, pattern)", "meets(value, criterion)"],
+    "operators": ["operate(sign, one, other)", "negated(value)"],
+    "days": ["day_number(year, month, day)", "date_of(number)"],
+    "signatures": ["function_names()", "takes(name)", "place_sort(name, many, at)"],
+    "functions": ["call(name, arguments, *, here=(1, 1))", "wanted(name, many, known)"],
+    "arrays": ["stretched(grids)", "part_at(grid, row, column)"],
+    "webs": ["seen_by(book, place)", "hangs_on(book, place)", "fed_by(book, place)", "rings(book)"],
+    "working": ["last_worked(book)", "fresh_values(book)"],
+    "spills": ["reach_at(book, place)", "spill_area(book, place)", "spilled_from(book, place)"],
+    "structure": ["insert_rows(book, sheet, at, many)", "insert_columns(book, sheet, at, many)",
+                  "delete_rows(book, sheet, at, many)", "delete_columns(book, sheet, at, many)",
+                  "open_cells(book, area, *, down=True)", "close_cells(book, area, *, up=True)"],
+    "moving": ["move_cells(book, area, place)", "copy_cells(book, area, place)"],
+    "filling": ["fill_cells(book, area, onto)"],
+    "sorting": ["sort_rows(book, area, by)"],
 }
 ARITHMETIC = ["__eq__", "__add__", "__radd__", "__sub__", "__rsub__", "__mul__", "__rmul__", "__neg__"]
 CLASSES = {
@@ -45,6 +65,10 @@ CLASSES = {
     "formats.Format(text)": ["__eq__"],
     "addresses.Address(row, column, *, fixed_row=False, fixed_column=False, sheet=None)": [
         "__eq__", "pushed(rows, columns)", "bare()"],
+    "areas.Area(first, last, *, whole=None)": ["__eq__", "has(address)", "common(other)", "without(other)", "cells()"],
+    "book.Book()": ["__eq__", "put(place, content)", "text_of(place)", "value_of(place)", "holding()", "sheets()",
+                    "add_sheet(name)", "rename_sheet(name, fresh)", "drop_sheet(name)", "define(name, text)",
+                    "undefine(name)", "names()", "copied()"],
 }
 
 
