@@ -78,10 +78,10 @@ def _at_places(things, way):
     floor = size.floor()
     if (size - floor).sign() == 0:
         return told[0]
-    return Ratio(_beside(size, floor, way)) * scale.inverse()
+    return Ratio(_rounded_whole(size, floor, way)) * scale.inverse()
 
 
-def _beside(number, floor, way):
+def _rounded_whole(number, floor, way):
     """One of the two integers beside a number that is none; the lesser one is told."""
     farther = floor if floor < 0 else floor + 1
     if way == "away":

@@ -18,7 +18,7 @@ class Mesh:
         self.of_names = name_sizes(setting) if old is None else old.of_names
         self.sights = self._sights_behind(cells, {} if old is None else old.sights)
         seen = RectIndex({}, {}) if old is None else old.seen
-        self.seen = seen.changed(_changes(cells, {} if old is None else old.sights, self.sights))
+        self.seen = seen.changed(_seen_changes(cells, {} if old is None else old.sights, self.sights))
         # The cells with formulas in which, or in the names of which, spill references are written.
         self.trails = self._trails_behind(cells, {} if old is None else old.trails)
         self.sizes = self._sizes_behind(cells, {} if old is None else old.sizes)
@@ -114,7 +114,7 @@ class Mesh:
         return list(found)
 
 
-def _changes(cells, old, fresh):
+def _seen_changes(cells, old, fresh):
     """The triples of cells and what their formulas saw ahead, and see now, that RectIndex asks for."""
     changes = []
     for cell in cells:

@@ -8,7 +8,7 @@ from allinputs.notations import begins_reference, begins_rows, read_reference, w
 from allinputs.ordering import small_letters
 from allinputs.relatives import begins_relative, is_relative_cell, read_relative
 from allinputs.scanning import (
-    behind_spaces, behind_word, read_array, read_decimal, read_kind, read_quoted, sign_at,
+    behind_spaces, behind_word, read_array, read_decimal, read_kind, read_quoted, char_at,
 )
 from allinputs.trees import LEVELS, MOST_HEIGHT
 from allinputs.words import is_digit, looks_like_reference, starts_word, truth_word
@@ -136,7 +136,7 @@ class _Reading:
     def _read_word(self):
         """What begins with a word: a head, a sheet and a reference, a reference, a truth or a name."""
         end = behind_word(self.text, self.at)
-        word, sign = self.text[self.at:end], sign_at(self.text, end)
+        word, sign = self.text[self.at:end], char_at(self.text, end)
         if sign == "(":
             self._begin(word, end + 1)
         elif sign == "!" and is_sheet_name(word):

@@ -84,8 +84,10 @@ class RectIndex:
     def keys_at(self, cell):
         """A list of the keys of the rectangles in which a cell lies, maybe some twice."""
         found = list(self.near.get(cell, ()))
-        for rect, keys in self.far.items():
-            if has_cell(rect, cell):
+        own, row, column = cell
+        # There may be many greater rectangles, so each is looked at without a call.
+        for (sheet, top, left, bottom, right), keys in self.far.items():
+            if top <= row <= bottom and left <= column <= right and sheet == own:
                 found.extend(keys)
         return found
 

@@ -8,7 +8,7 @@ from allinputs.addresses import COLUMNS, ROWS, is_on_grid, marked_address
 from allinputs.areas import Area
 from allinputs.errors import NotAFormula
 from allinputs.notations import read_place_number
-from allinputs.scanning import behind_digits, behind_sign, sign_at
+from allinputs.scanning import behind_digits, behind_sign, char_at
 from allinputs.words import is_digit
 
 MOST_STEP_DIGITS = 6
@@ -21,13 +21,13 @@ def read_relative(text, start, sheet, base):
         other, at = _read_column(text, behind_sign(text, at, ":"), base)
         return _area_node((1, False), one, (1, False), other, sheet, "columns"), at
     row, at = _read_row(text, start, base)
-    if sign_at(text, at) == ":":
+    if char_at(text, at) == ":":
         last, at = _read_row(text, at + 1, base)
         return _area_node(row, (1, False), last, (1, False), sheet, "rows"), at
     column, at = _read_column(text, at, base)
-    if sign_at(text, at) == "#":
+    if char_at(text, at) == "#":
         return _cell_node("spill", row, column, sheet), at + 1
-    if sign_at(text, at) != ":":
+    if char_at(text, at) != ":":
         return _cell_node("cell", row, column, sheet), at
     last, at = _read_row(text, at + 1, base)
     other, at = _read_column(text, at, base)
@@ -37,7 +37,7 @@ def read_relative(text, start, sheet, base):
 def begins_relative(text, start, end):
     """Whether the word between two places, and what stands behind it, can be nothing but a reference."""
     has_row, has_column, is_open = _sort_of_word(text[start:end])
-    sign = sign_at(text, end)
+    sign = char_at(text, end)
     if sign == "[":
         return is_open
     if sign == "#":
@@ -94,16 +94,16 @@ def _read_column(text, start, base):
 
 def _read_number(text, start, seen_from, most):
     """The number of a row or a column behind its letter."""
-    if is_digit(sign_at(text, start)):
+    if is_digit(char_at(text, start)):
         number, at = read_place_number(text, start, most)
         return (number, True), at
-    if sign_at(text, start) != "[":
+    if char_at(text, start) != "[":
         return (seen_from, False), start
-    begin = start + 2 if sign_at(text, start + 1) == "-" else start + 1
+    begin = start + 2 if char_at(text, start + 1) == "-" else start + 1
     at = begin
-    while at < begin + MOST_STEP_DIGITS and is_digit(sign_at(text, at)) and text[begin] != "0":
+    while at < begin + MOST_STEP_DIGITS and is_digit(char_at(text, at)) and text[begin] != "0":
         at = at + 1
-    if at == begin or sign_at(text, at) != "]":
+    if at == begin or char_at(text, at) != "]":
         raise NotAFormula(at)
     return (seen_from + int(text[start + 1:at]), False), at + 1
 

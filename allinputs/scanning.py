@@ -14,7 +14,7 @@ from allinputs.words import goes_on, is_digit, starts_word
 _TRUTHS = ("TRUE", "FALSE")
 
 
-def sign_at(text, at):
+def char_at(text, at):
     """The character at a place, "" at the end."""
     return text[at:at + 1]
 
@@ -22,7 +22,7 @@ def sign_at(text, at):
 def behind_spaces(text, start):
     """The first place from one on at which no space stands."""
     at = start
-    while sign_at(text, at) == " ":
+    while char_at(text, at) == " ":
         at = at + 1
     return at
 
@@ -30,14 +30,14 @@ def behind_spaces(text, start):
 def behind_digits(text, start):
     """The first place from one on at which no digit stands."""
     at = start
-    while is_digit(sign_at(text, at)):
+    while is_digit(char_at(text, at)):
         at = at + 1
     return at
 
 
 def behind_sign(text, at, sign):
     """The place behind a character that has to stand at a place."""
-    if sign_at(text, at) != sign:
+    if char_at(text, at) != sign:
         raise NotAFormula(at)
     return at + 1
 
@@ -45,7 +45,7 @@ def behind_sign(text, at, sign):
 def behind_word(text, start):
     """The first place from one on at which nothing stands by which a word goes on."""
     at = start
-    while goes_on(sign_at(text, at)):
+    while goes_on(char_at(text, at)):
         at = at + 1
     return at
 
@@ -55,7 +55,7 @@ def read_decimal(text, start):
     at = behind_digits(text, start)
     if at == start:
         raise NotAFormula(at)
-    if sign_at(text, at) != ".":
+    if char_at(text, at) != ".":
         return Ratio(int(text[start:at])), at
     end = behind_digits(text, at + 1)
     if end == at + 1:
@@ -69,7 +69,7 @@ def read_quoted(text, start):
     at = start + 1
     while at < len(text) and is_plain(text[at]):
         if text[at] == "\"":
-            if sign_at(text, at + 1) != "\"" or len(told) == MOST_CHARACTERS:
+            if char_at(text, at + 1) != "\"" or len(told) == MOST_CHARACTERS:
                 return "".join(told), at + 1
             at = at + 1
         elif len(told) == MOST_CHARACTERS:
@@ -93,7 +93,7 @@ def read_array(text, start):
         entry, at = _read_entry(text, behind_spaces(text, at + 1))
         row.append(entry)
         at = behind_spaces(text, at)
-        sign = sign_at(text, at)
+        sign = char_at(text, at)
         many = len(rows[0]) if rows else 0
         if sign == "," and (not rows or len(row) < many):
             continue
@@ -107,7 +107,7 @@ def read_array(text, start):
 
 def _read_entry(text, start):
     """The value of an entry of an array."""
-    sign = sign_at(text, start)
+    sign = char_at(text, start)
     if sign == "-":
         number, at = read_decimal(text, behind_spaces(text, start + 1))
         return -number, at

@@ -7,7 +7,8 @@ from allinputs.rects import rect_from
 
 def reach_at(book, place):
     """The pair (height, width) of the reach of the formula of a cell, not cut at the edges of the sheet."""
-    return mesh_of(book).size_at(cell_asked(book, place))
+    cell = cell_asked(book, place)
+    return mesh_of(book).size_at(cell)
 
 
 def spill_area(book, place):

@@ -126,10 +126,11 @@ def fresh_state(held):
 def state_behind(state, held):
     """The State of what a book holds, by that of what it held before."""
     old = state.held
-    if old.tabs != held.tabs:
-        return fresh_state(held)
     mesh = held.mesh_by(old)
     cells = unlike(old.texts, held.texts)
+    # Where most of it is new it takes longer to find what is not touched.
+    if old.tabs != held.tabs or len(cells) * 2 > len(held.contents):
+        return fresh_state(held)
     edges = touched(old, held)
     run = _Run(mesh, _copied(state.known), _copied(state.spills), _copied(state.owners), _copied(state.failed))
     run.forget(cells + list(edges))
