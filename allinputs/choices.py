@@ -2,7 +2,7 @@
 
 from allinputs.checks import is_integer
 from allinputs.grids import Grid
-from allinputs.ordering import order
+from allinputs.ordering import known_order
 from allinputs.places import first_fault, first_fault_within, whole_within
 from allinputs.turning import to_number, to_truth
 from allinputs.values import Fault, is_number, kind_of
@@ -74,7 +74,7 @@ def _switch_step(many, known):
             return at
         if isinstance(known[at], Fault):
             return known[at]
-        if at > 0 and order(known[0], known[at]) == 0:
+        if at > 0 and known_order(known[0], known[at]) == 0:
             return at + 1
     return Fault("NA") if many % 2 == 1 else many - 1
 

@@ -2,10 +2,10 @@
 
 from allinputs.errors import BadValue
 from allinputs.numerals import read_number, wrong_place
-from allinputs.ordering import order, small_letters
+from allinputs.ordering import known_order, small_letters
 from allinputs.ratios import Ratio
 from allinputs.turning import truth_of
-from allinputs.values import Fault, check_value, is_text, kind_of
+from allinputs.values import Fault, check_value, is_text, known_kind
 
 # The longer one of two signs with which a text begins comes ahead.
 _SIGNS = ("<>", "<=", ">=", "=", "<", ">")
@@ -49,16 +49,16 @@ def is_met(value, criterion):
         return _is_equal(value, rest, pattern)
     if sign == "<>":
         return not isinstance(value, Fault) and not _is_equal(value, rest, pattern)
-    return kind_of(value) == kind_of(rest) and order(value, rest) in _ORDERS[sign]
+    return known_kind(value) == known_kind(rest) and known_order(value, rest) in _ORDERS[sign]
 
 
 def _is_equal(value, rest, pattern):
     """Whether a value meets the criterion of the sign "=" and a rest; None is nothing behind the sign."""
     if value is None:
         return rest is None or (isinstance(rest, str) and rest == "")
-    if rest is None or kind_of(value) != kind_of(rest):
+    if rest is None or known_kind(value) != known_kind(rest):
         return False
-    return is_fit(value, pattern) if isinstance(value, str) else order(value, rest) == 0
+    return is_fit(value, pattern) if isinstance(value, str) else known_order(value, rest) == 0
 
 
 def _split(text):

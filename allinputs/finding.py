@@ -3,11 +3,11 @@
 from allinputs.criteria import is_fit, pattern_of
 from allinputs.grids import MOST_VALUES, Grid, grid_of, is_line
 from allinputs.operators import checked
-from allinputs.ordering import order
+from allinputs.ordering import known_order
 from allinputs.places import first_fault, first_fault_within, given, ready, whole_within
 from allinputs.ratios import Ratio
 from allinputs.totals import sum_by_bottoms, sum_of_numbers
-from allinputs.values import Fault, is_number, kind_of
+from allinputs.values import Fault, is_number, known_kind
 
 
 def _turned(letters, things):
@@ -20,9 +20,9 @@ def _turned(letters, things):
 
 def first_equal(value, cells):
     """The place, from 0 on, of the first of some values of the kind of a value that equals it; None without one."""
-    kind = kind_of(value)
+    kind = known_kind(value)
     for at, cell in enumerate(cells):
-        if kind_of(cell) == kind and order(cell, value) == 0:
+        if known_kind(cell) == kind and known_order(cell, value) == 0:
             return at
     return None
 
@@ -43,11 +43,11 @@ def near_place(value, cells, side):
 
     One beyond is greater if side is 1, less if side is -1. None if no value is passed.
     """
-    kind = kind_of(value)
+    kind = known_kind(value)
     near = None
     for at, cell in enumerate(cells):
-        if kind_of(cell) == kind:
-            if order(cell, value) == side:
+        if known_kind(cell) == kind:
+            if known_order(cell, value) == side:
                 return near
             near = at
     return near
@@ -55,11 +55,11 @@ def near_place(value, cells, side):
 
 def _nearest(value, cells, side):
     """The place of the greatest lesser value of the kind of a value if side is -1, of the least greater one if 1."""
-    kind = kind_of(value)
+    kind = known_kind(value)
     near = None
     for at, cell in enumerate(cells):
-        if kind_of(cell) == kind and order(cell, value) == side:
-            if near is None or order(cell, cells[near]) == -side:
+        if known_kind(cell) == kind and known_order(cell, value) == side:
+            if near is None or known_order(cell, cells[near]) == -side:
                 near = at
     return near
 

@@ -36,12 +36,12 @@ class Grid:
     def one_row(self, row):
         """The grid of one row."""
         check_range(row, 1, self.height)
-        return Grid([self.rows[row - 1]])
+        return made_grid((self.rows[row - 1],), None)
 
     def one_column(self, column):
         """The grid of one column."""
         check_range(column, 1, self.width)
-        return Grid([(row[column - 1],) for row in self.rows])
+        return made_grid(tuple([(row[column - 1],) for row in self.rows]), None)
 
     def cells(self):
         """The tuple of all values, row by row."""
@@ -49,7 +49,8 @@ class Grid:
 
     def turned(self):
         """The grid with rows and columns exchanged."""
-        return Grid([tuple([row[at] for row in self.rows]) for at in range(self.width)])
+        columns = range(self.width)
+        return made_grid(tuple([tuple([row[at] for row in self.rows]) for at in columns]), None)
 
 
 def made_grid(rows, corner):

@@ -76,10 +76,6 @@ class Mesh:
         height, width = self.size_at(cell)
         return rect_from(cell, height, width)
 
-    def seeing(self, cell):
-        """A list of the formulas that see a cell."""
-        return self.seen.keys_at(cell)
-
     def reaching(self, cell):
         """A list of the formulas with a reach of several cells in which a cell lies."""
         return self.reached.keys_at(cell)

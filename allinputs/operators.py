@@ -2,7 +2,7 @@
 
 from allinputs.errors import BadValue, TooHigh
 from allinputs.grids import Grid
-from allinputs.ordering import order
+from allinputs.ordering import known_order
 from allinputs.places import first_fault, text_told, turned_places, whole_within
 from allinputs.ratios import Ratio
 from allinputs.turning import to_number
@@ -37,7 +37,7 @@ def operated(sign, one, other):
     if fault is not None:
         return fault
     if sign in _ORDERS:
-        return order(one, other) in _ORDERS[sign]
+        return known_order(one, other) in _ORDERS[sign]
     if sign == "&":
         return _together(one, other)
     numbers = turned_places("xy", (one, other))

@@ -3,7 +3,7 @@
 from allinputs.checks import check_string
 from allinputs.errors import BadValue
 from allinputs.ratios import Ratio
-from allinputs.values import Fault, check_value, compare_numbers, kind_of
+from allinputs.values import Fault, check_value, compare_numbers, known_kind
 from allinputs.wholes import sign_of_whole
 
 # Kinds come in this order when values are sorted; the first three when they are compared.
@@ -14,6 +14,11 @@ def order(one, other):
     """-1, 0 or 1, if a value that is no fault comes ahead of another one, is equal or comes behind."""
     _check_no_fault(one)
     _check_no_fault(other)
+    return known_order(one, other)
+
+
+def known_order(one, other):
+    """What order tells of what is known to be two values that are no faults."""
     return _order_of(_counted_as(one, other), _counted_as(other, one))
 
 
@@ -52,7 +57,7 @@ def _counted_as(value, peer):
 
 def _order_of(one, other):
     """The order of two values: by their kinds, then within their kind."""
-    kind, peer = kind_of(one), kind_of(other)
+    kind, peer = known_kind(one), known_kind(other)
     if kind != peer:
         return sign_of_whole(_RANKS[kind] - _RANKS[peer])
     if kind == "number":

@@ -55,6 +55,13 @@ def check_value(value):
 def kind_of(value):
     """The kind of a value: "number", "text", "truth", "blank" or "fault"."""
     check_value(value)
+    return known_kind(value)
+
+
+def known_kind(value):
+    """The kind of what is known to be a value."""
+    if isinstance(value, Ratio):
+        return "number"
     if value is None:
         return "blank"
     if isinstance(value, bool):
@@ -78,10 +85,10 @@ def same(one, other):
 
 def compare_numbers(one, other):
     """-1, 0 or 1, by the sign of the difference of two numbers that are values."""
+    if isinstance(one, Ratio) and isinstance(other, Ratio):
+        return one.compare(other)
     if isinstance(one, Member):
         return one.compare(other)
     if isinstance(other, Member) and isinstance(one, Ratio):
         return -other.compare(one)
-    if isinstance(one, Ratio) and isinstance(other, Ratio):
-        return one.compare(other)
     return (one - other).sign()

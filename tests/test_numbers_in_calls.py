@@ -144,6 +144,7 @@ class Told(Calls, Case):
                 ("#NUM", "POWER", (2, root)), (2, "POWER", (root, 2)), (root - 1, "MOD", (root, 1)), (1, "QUOTIENT", (root, 1)),
                 ([[root], [root + root]], "SEQUENCE", (2, 1, root, root)), ([[2]], "MMULT", (root, root)), (True, "OR", (0, root))):
             self.tells(told, name, *arguments)
+        self.tells([[root, "A"], [root, "b"], [1, "a"]], "UNIQUE", [[root, "A"], [root, "a"], [root, "b"], [1, "a"], [root, "B"]])
         self.fails(NotTold, {}, call, "LEN", [root])
         point = isolate(X * X * X - 2, None, None)[0]
         self.assertIsInstance(member(point, Curve(X)), Member)

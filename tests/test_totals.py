@@ -92,6 +92,10 @@ class Totals(Calls, Case):
         for name, arguments in (("SUM", (Ratio(10 ** 3000 - 1), 1)), ("PRODUCT", (long, 10)), ("PRODUCT", (long, long)),
                                 ("SUM", (Ratio(1, 10 ** 2000), Ratio(1, 10 ** 2000 + 1)))):
             self.fails(TooHigh, {"most": 3000}, result, name, *arguments)
+        # What would take too long on the way to a result is not worked out; with a factor 0 nothing is.
+        self.fails(TooHigh, {"most": 3000}, result, "PRODUCT", [[long]] * 10000)
+        self.tells(0, "PRODUCT", 0, [[long]] * 9000)
+        self.fails(TooHigh, {"most": 3000}, result, "SUM", [[Ratio(1, 10 ** 2999 + at)] for at in range(1, 2001, 2)])
         self.tells(1, "COUNT", long)
         self.tells(long, "MAX", long, 1)
 
