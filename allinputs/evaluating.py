@@ -72,13 +72,20 @@ class Worker:
         if self._is_leaf(formula):
             return self._leaf(formula, cell, False)
         steps = [self._step(formula)]
+        # Names tell the same wherever they are written in a formula, so each is worked once.
+        named = {}
         while True:
             part = steps[-1].next_part()
             if part is None:
-                told = steps.pop().told(cell[1:])
+                step = steps.pop()
+                told = step.told(cell[1:])
+                if step.formula[0] == "name":
+                    named[step.formula[1]] = told
                 if not steps:
                     return told
                 steps[-1].take(told)
+            elif part[0] == "name" and part[1] in named:
+                steps[-1].take(named[part[1]])
             elif self._is_leaf(part):
                 steps[-1].take(self._leaf(part, cell, steps[-1].is_single()))
             else:

@@ -6,9 +6,10 @@ from allinputs.sights import Sight
 
 
 class Mesh:
-    """The contents of cells under a setting, with the sights and sizes of all formulas. A Mesh does not change.
+    """The contents of cells under a setting, with the sights and sizes of all formulas.
 
-    It is made from an old one with the same setting in which some cells alone hold something else, or from None.
+    What a Mesh tells does not change. It is made from an old one with the same setting in which some cells alone hold
+    something else, or from None.
     """
 
     def __init__(self, setting, contents, cells, old):
@@ -17,13 +18,15 @@ class Mesh:
         # The sizes of the names in which no spill reference is written.
         self.of_names = name_sizes(setting) if old is None else old.of_names
         self.sights = self._sights_behind(cells, {} if old is None else old.sights)
-        seen = RectIndex({}, {}) if old is None else old.seen
+        seen = RectIndex({}, {}, {}) if old is None else old.seen
         self.seen = seen.changed(_seen_changes(cells, {} if old is None else old.sights, self.sights))
         # The cells with formulas in which, or in the names of which, spill references are written.
         self.trails = self._trails_behind(cells, {} if old is None else old.trails)
         self.sizes = self._sizes_behind(cells, {} if old is None else old.sizes)
-        reached = RectIndex({}, {}) if old is None else old.reached
+        reached = RectIndex({}, {}, {}) if old is None else old.reached
         self.reached = reached.changed(self._reach_changes(cells, {} if old is None else old.sizes))
+        # What hanging_on told of cells, as it is asked for the same ones again and again.
+        self.hanging = {}
 
     def _sights_behind(self, cells, old):
         """The dict of the sights of all formulas."""
@@ -82,6 +85,12 @@ class Mesh:
 
     def hanging_on(self, cell):
         """A list, without one twice, of the formulas that hang on that of a cell by one step."""
+        if cell not in self.hanging:
+            self.hanging[cell] = self._found_hanging_on(cell)
+        return self.hanging[cell]
+
+    def _found_hanging_on(self, cell):
+        """The same, looked for among all formulas."""
         found = {other: True for other in self.seen.keys_at(cell)}
         if self.size_at(cell) != ALONE:
             rect = self.reach_of_cell(cell)

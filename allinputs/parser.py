@@ -228,6 +228,7 @@ def read_relative_formula(text, base):
     check_address(base)
     return _read(text, base)
 
+
 def _read(text, base):
     """The formula of a text; base is None for the notation by letters and digits."""
     _check_brackets(text)

@@ -63,23 +63,27 @@ def cells_held_in(rect, held):
 
 def has_other(rect, held):
     """Whether a rectangle has a cell that is no key of a dict."""
+    sheet, top, left, bottom, right = rect
     if many_cells(rect) > len(held):
         return True
-    for cell in cells_of(rect):
-        if cell not in held:
-            return True
+    for row in range(top, bottom + 1):
+        for column in range(left, right + 1):
+            if (sheet, row, column) not in held:
+                return True
     return False
 
 
 class RectIndex:
-    """Rectangles, each with a key: the lesser ones are kept by each of their cells, the greater ones by themselves.
+    """Rectangles, each with a key: the lesser ones are kept by each of their cells, too.
 
-    near is a dict from cells, far one from rectangles, to the tuples of their keys.
+    Three dicts to the tuples of their keys: near from the cells of the lesser ones, far from the greater ones, whole
+    from all of them.
     """
 
-    def __init__(self, near, far):
+    def __init__(self, near, far, whole):
         self.near = near
         self.far = far
+        self.whole = whole
 
     def keys_at(self, cell):
         """A list of the keys of the rectangles in which a cell lies, maybe some twice."""
@@ -93,20 +97,13 @@ class RectIndex:
 
     def keys_beside(self, rect, held):
         """A list of the keys of the rectangles that share a cell with another one that is no key of a dict."""
+        if many_cells(rect) > MOST_NEAR:
+            return _keys_sharing(self.whole, rect, held)
         found = []
-        if many_cells(rect) <= MOST_NEAR:
-            for cell in cells_of(rect):
-                if cell not in held:
-                    found.extend(self.near.get(cell, ()))
-        else:
-            for cell, keys in self.near.items():
-                if has_cell(rect, cell) and cell not in held:
-                    found.extend(keys)
-        for other, keys in self.far.items():
-            shared = met_rect(rect, other)
-            if shared is not None and has_other(shared, held):
-                found.extend(keys)
-        return found
+        for cell in cells_of(rect):
+            if cell not in held:
+                found.extend(self.near.get(cell, ()))
+        return found + _keys_sharing(self.far, rect, held)
 
     def changed(self, changes):
         """The index behind some changes, triples of a key, its rectangles ahead and those behind them."""
@@ -114,21 +111,39 @@ class RectIndex:
             return self
         near = _table_behind(self.near, [(key, _near_cells(old), _near_cells(fresh)) for key, old, fresh in changes])
         far = _table_behind(self.far, [(key, _far_rects(old), _far_rects(fresh)) for key, old, fresh in changes])
-        return RectIndex(near, far)
+        return RectIndex(near, far, _table_behind(self.whole, changes))
+
+
+def _keys_sharing(table, rect, held):
+    """A list of the keys of a dict's rectangles that share a cell with another one that is no key of held."""
+    sheet, top, left, bottom, right = rect
+    found = []
+    for other, keys in table.items():
+        # Most have no cell in common, and this is told soonest without a call.
+        if other[1] <= bottom and top <= other[3] and other[2] <= right and left <= other[4] and other[0] == sheet:
+            if has_other(met_rect(rect, other), held):
+                found.extend(keys)
+    return found
 
 
 def _table_behind(table, changes):
     """A dict of tuples of keys behind some changes, triples of a key, its places ahead and those behind them."""
     told = {place: table[place] for place in table}
-    for key, old, fresh in changes:
+    gone = {}
+    for key, old, _ in changes:
         for place in old:
-            left = tuple([other for other in told[place] if other != key])
-            if left:
-                told[place] = left
-            else:
-                del told[place]
+            gone.setdefault(place, {})[key] = True
+    for place, keys in gone.items():
+        told[place] = tuple([key for key in told[place] if key not in keys])
+    added = {}
+    for key, _, fresh in changes:
         for place in fresh:
-            told[place] = told.get(place, ()) + (key,)
+            added.setdefault(place, []).append(key)
+    for place, keys in added.items():
+        told[place] = told.get(place, ()) + tuple(keys)
+    for place in gone:
+        if not told[place]:
+            del told[place]
     return told
 
 

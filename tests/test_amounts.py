@@ -125,6 +125,7 @@ class Choices(Calls, Case):
                 ("IF", 3, {0: grid}, 1), ("IF", 3, {0: grid, 1: True}, 2), ("IF", 3, {0: grid, 1: True, 2: True}, None),
                 ("SUM", 3, {2: True}, 0), ("SUM", 3, {0: grid, 2: True}, 1), ("SUM", 2, {1: True, 0: True}, None),
                 ("CHOOSE", 3, {2: True, 0: Ratio(2)}, None), ("SWITCH", 4, {1: grid}, 0), ("SWITCH", 4, {3: True}, 0),
+                ("IF", 3, {0: True, 1: grid}, None), ("IF", 3, {0: False, 1: grid}, 2), ("CHOOSE", 3, {0: Ratio(2), 2: grid}, None),
                 ("IFERROR", 2, {1: True}, 0), ("IFERROR", 2, {1: True, 0: Fault("NA")}, None), ("VLOOKUP", 3, {0: grid}, 1)):
             self.assertEqual(wanted(name, many, known), told, (name, known))
             self.assertEqual(wanted(name=name, many=many, known=dict(reversed(list(known.items())))), told)

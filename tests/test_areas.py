@@ -115,7 +115,7 @@ class Texts(Case):
         for text in ("", "A", "1", "A0", "A01", "A1000001", "AAAA1", "A1:", ":A1", "A1:B", "A:1", "A:B2", "1:A", "A1:2",
                      "A1:B2:C3", "A1::B2", "A1 :B2", " A1", "A1 ", "0:1", "1:01", "1:1000001", "A$:B", "$$A1", "A$$1",
                      "!A1", "a b!A1", "1a!A1", "sheetnumber12!A1", "a!b!A1", "A1:a!B2", "A1#", "$1:$", "A:B$", "$:A",
-                     "R1C1:", "\u00c41", "A\u0661", "x!", "x!:", "A1:$", "A$1:B"):
+                     "R1C1:", "a b!A:B", "1a!2:3", "a_b!A1:B2", "!A:B", "\u00c41", "A\u0661", "x!", "x!:", "A1:$", "A$1:B"):
             self.fails(NotAName, {"name": text}, read_area, text)
         for value in NO_AREAS[:2] + (True, [], Address(1, 1)):
             self.bad(value, read_area, value)

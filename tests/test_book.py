@@ -141,6 +141,22 @@ class Sheets(BookCase):
             self.stays_bad(book, value, book.rename_sheet, value, 1)
             self.stays_bad(book, value, book.rename_sheet, "??", value)
 
+    def test_one_of_several(self):
+        for at, name in enumerate(("Sheet1", "B", "C", "D")):
+            book = book_of({"A1": "1", "B!A1": "=A1", "C!A1": "2", "D!A1": f"={name}!A2"}, sheets=("B", "C", "D"))
+            tabs = list(book.sheets())
+            book.rename_sheet(name, "New")
+            tabs[at] = "New"
+            self.assertEqual(book.sheets(), tuple(tabs))
+            self.assertEqual(book.holding(), tuple(f"{tab}!A1" for tab in tabs))
+            self.assertEqual([book.text_of(f"{tab}!A1") for tab in tabs], ["1", "=A1", "2", "=New!A2"])
+            book.drop_sheet("new")
+            del tabs[at]
+            texts = ["1", "=A1", "2", "=#REF"]
+            del texts[at]
+            self.assertEqual(book.sheets(), tuple(tabs))
+            self.assertEqual([book.text_of(f"{tab}!A1") for tab in tabs], texts)
+
     def test_a_name_that_was_missing(self):
         book = book_of({"A1": "=tax!A1", "Other!A1": "7"}, sheets=("Other",))
         book.rename_sheet("Other", "Tax")

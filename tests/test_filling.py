@@ -69,6 +69,14 @@ class Filling(BookCase):
         fill_cells(book, "Sheet1!D1:E2", "A1:E2")
         self.texts(book, {"A1": "-1", "B1": "1", "C1": "3", "D1": "5", "E1": "7", "A2": "5", "B2": "=B$1", "C2": "5", "D2": "=D$1",
                           "E2": "5"})
+        # What stands beside the area stays.
+        for area, onto, fresh in (("B2:C3", "B2:C5", "B4 C4 B5 C5"), ("B2:C3", "B2:E3", "D2 E2 D3 E3"), ("D4:E5", "D2:E5", "D2 E2 D3 E3"),
+                                  ("D4:E5", "B4:E5", "B4 C4 B5 C5")):
+            book = book_of({letter + str(row): letter + str(row) for letter in "ABCDEF" for row in range(1, 7)})
+            before = {place: book.text_of(place) for place in book.holding()}
+            fill_cells(book, area, onto)
+            changed = [place for place in book.holding() if book.text_of(place) != before[place]]
+            self.assertEqual([place.removeprefix("Sheet1!") for place in changed], fresh.split())
         book = book_of({"Tax!A1": "1", "Tax!A2": "=B1"}, sheets=("Tax",))
         fill_cells(book, "tax!A1:A2", "TAX!A1:A3")
         self.texts(book, {"Tax!A1": "1", "Tax!A2": "=B1", "Tax!A3": "1"})
@@ -79,8 +87,11 @@ class Filling(BookCase):
         fill_cells(book, "B2:B3", "B3:B2")
         self.assertTrue(book == before)
         self.worked(book, "")
-        for onto in ("B1:B4", "B3:B4", "B2", "B2:C4", "A2:B5", "C2:C9", "A1:Z9", "tax!B2:B9", "B:B", "B4:B9", "B1:C3"):
+        for onto in ("B1:B4", "B3:B4", "B2", "B2:C4", "A2:B5", "C2:C9", "A1:Z9", "tax!B2:B9", "B:B", "B4:B9", "B1:C3", "B3", "B3:B3", "A2:C2"):
             self.stays_bad(book, onto, fill_cells, book, "B2:B3", onto)
+        # An area of several columns, neither at the beginning nor at the end, or greater than the other one.
+        for onto in ("A2:F3", "C2:D3", "A2:D3", "B1:D4", "D2:D3", "C3:D3", "B2:C3"):
+            self.stays_bad(book, onto, fill_cells, book, "B2:D3" if onto != "A2:D3" else "B2:C3", onto)
         for onto in ("B2:D3", "A2:B3", "B2:B9", "B1:B3"):
             copy = book.copied()
             fill_cells(copy, "B2:B3", onto)

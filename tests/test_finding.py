@@ -54,7 +54,8 @@ class Finding(Calls, Case):
                 (20, (2, [[1, 2, 3]], [[10], [20], [30]])), (20, (Ratio(5, 2), [[1], [2], [3]], [[10, 20, 30]])),
                 (2, (2, [[1, 2, 3]])), ("#NA", (0, [[1, 2, 3]])), ("#NA", (2, [[1, 2, 3]], [[1, 2]])),
                 ("#NA", (1, [[1, 2], [3, 4]])), ("#NA", (1, [[1, 2]], [[1, 2], [3, 4]])), ("#REF", (1, [[1]], [["#REF"]])),
-                ("#NA", (1, [[1]], "#NA")), (7, (1, 1, 7)), (0, (None, [[0, 1]]))):
+                ("#NA", (1, [[1]], "#NA")), (7, (1, 1, 7)), (0, (None, [[0, 1]])), ("#NA", (1, [[1, 2], [3, 4]], [[1, 2, 3, 4]])),
+                ("#NA", (1, [[1, 2, 3, 4]], [[1, 2], [3, 4]]))):
             self.tells(told, "LOOKUP", *arguments)
 
     def test_look_up_by(self):
@@ -65,6 +66,8 @@ class Finding(Calls, Case):
                 (None, (2, keys, values, None)), ([[1, 2]], (2, keys, values, [[1, 2]])), (10, (2, keys, values, "none", -1)),
                 (30, (2, keys, values, "none", 1)), (50, (9, keys, values, "none", -1)), ("none", (9, keys, values, "none", 1)),
                 ("none", (0, keys, values, "none", -1)), (10, (0, keys, values, "none", 1)), (30, (4, keys, values, 0, -1)),
+                (30, (3, keys, values, 0, -1)), (30, (3, keys, values, 0, 1)), (50, (5, keys, values, 0, 1)),
+                ("none", (4, keys, values, "none", 2)), ("none", (4, keys, values, "none", 0)),
                 ("A", ("A", keys, values)), ("A", ("?", keys, values, 0, 2)), (0, ("?", keys, values, 0)),
                 ("#VALUE", (1, keys, values, 0, 3)), ("#VALUE", (1, keys, values, 0, -2)), (30, (3, keys, values, 0, Ratio(1, 2))),
                 ([["x", "y"]], (1, column, [["p", "q"], ["x", "y"], ["r", "s"]])), ("x", (1, column, [["p"], ["x"], ["r"]])),
@@ -141,6 +144,8 @@ class Arranging(Calls, Case):
         self.tells([["x", 1]], "UNIQUE", [["x", 1, "X"]], 1)
         self.tells([[0], [False], [""], [None]], "UNIQUE", [[0], [False], [""], [None], [0], [None], [""]])
         self.tells([["a"]], "UNIQUE", [["a"], ["A"]])
+        every = [[True], [False], [None], ["#NA"], ["#DIV"], [""], ["true"], [1], [HALF], [2]]
+        self.tells(every, "UNIQUE", every + every)
         self.tells("#VALUE", "UNIQUE", [[1]], "x")
         many = [[number % 100] for number in range(10000)]
         self.assertEqual(result("UNIQUE", many).height, 100)
@@ -153,7 +158,9 @@ class Arranging(Calls, Case):
                 ([["x", "y"]], (grid, [[0, 0]], [["x", "y"]])), ("#VALUE", (grid, [[1, 1, 1]])), ("#VALUE", (grid, 1)),
                 ("#VALUE", (grid, [[1, 1], [1, 1], [1, 1]])), ("#DIV", (grid, [["#DIV"], ["x"], ["#NA"]])),
                 ("#VALUE", (grid, [["x"], ["#NA"], [1]])), ("#NA", ("#NA", "#DIV")), ("#DIV", (grid, "#DIV")), ([[7]], (7, True)),
-                ([["#NA"]], ([["#NA"]], 1)), ([[1, 2, 3]], ([[1, 2, 3]], 1)), ([[1, 3]], ([[1, 2, 3]], [[1, 0, 1]]))):
+                ([["#NA"]], ([["#NA"]], 1)), ([[5, 6]], (grid, [[0], [0], [1]], "#REF")),
+                ("#REF", (grid, [[0], [0], [0]], "#REF")),
+                ([[1, 2, 3]], ([[1, 2, 3]], 1)), ([[1, 3]], ([[1, 2, 3]], [[1, 0, 1]]))):
             self.tells(told, "FILTER", *arguments)
 
     def test_sequence(self):
@@ -164,6 +171,9 @@ class Arranging(Calls, Case):
                 ("#NA", (1, "x", "#NA")), ("#VALUE", ("x",)), ([[1], [2]], (Ratio(5, 2),)), ([[7, 7]], ("1", "2", 7, False))):
             self.tells(told, "SEQUENCE", *arguments)
         self.assertEqual(result("SEQUENCE", 100, 100).value_at(100, 100), Ratio(10000))
+        self.assertEqual(result("SEQUENCE", 1, 10000).value_at(1, 10000), Ratio(10000))
+        self.assertEqual(result("SEQUENCE", 10000).value_at(10000, 1), Ratio(10000))
+        self.tells("#NUM", "SEQUENCE", 1, 10001)
         self.fails(TooHigh, {"most": 3000}, result, "SEQUENCE", 2, 1, 10 ** 3000 - 1, 1)
 
     def test_corners_are_lost(self):

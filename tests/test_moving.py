@@ -39,6 +39,23 @@ class Moving(BookCase):
         move_cells(book, "Z1", "A1")
         self.texts(book, {"B1": "=A1"})
 
+    def test_what_stands_beside(self):
+        places = [letter + str(row) for letter in "ABCDEF" for row in range(1, 9)]
+        book = book_of({place: place for place in places})
+        book.put("H1", "=C5+D5+C4+E6+C7+B5+C5:D6+C4:D6+C5:E6+C5:D7+B5:D6")
+        move_cells(book, "A1:B2", "C5")
+        self.assertEqual(book.text_of("H1"), "=#REF+#REF+C4+E6+C7+B5+#REF+C4:D6+C5:E6+C5:D7+B5:D6")
+        told = {"A1": "", "B1": "", "A2": "", "B2": "", "C5": "A1", "D5": "B1", "C6": "A2", "D6": "B2"}
+        for place in places:
+            self.assertEqual(book.text_of(place), told.get(place, place))
+        # A copy, too, changes the target alone.
+        book = book_of({place: place for place in places if place not in ("B2", "C1", "C3")})
+        copy_cells(book, "A1:C3", "D4")
+        told = {"D4": "A1", "E4": "B1", "F4": "", "D5": "A2", "E5": "", "F5": "C2", "D6": "A3", "E6": "B3", "F6": ""}
+        for place in places:
+            if place not in ("B2", "C1", "C3"):
+                self.assertEqual(book.text_of(place), told.get(place, place))
+
     def test_to_another_sheet(self):
         book = book_of({"A1": "1", "A2": "=A1+B1+Tax!B1+sheet1!B1+none!A1+it.x", "B1": "=A1+SUM(A1:A2)+sheet1!A2+Tax!C1+A1:B1",
                         "Tax!B1": "=sheet1!A1+C1+D4+tax!D4", "Tax!D4": "lost"}, {"it.x": "A2", "on.x": "tax!D4"}, ("Tax",))

@@ -122,7 +122,9 @@ class Told(Calls, Case):
                 (x, "IF", (x, x, 2)), (x, "VALUE", (x,)), (x.inverse(), "POWER", (x, -1)), (1, "COUNT", ([[x, "a"]],)),
                 (0, "INT", (root_strand(UNIT),)), (1, "ROUNDUP", (root_strand(UNIT),)), (x, "INDEX", ([[1, x]], 2)),
                 ([[-1], [x]], "SORT", ([[x], [-1]],)), (x * 2 + 3, "SUMPRODUCT", ([[x, 3]], [[2, 1]])),
-                (2, "MATCH", (root_strand(Span(3, 4)), [[1, 3, 4]])), (True, "AND", (x, [[x]])), ("x", "SWITCH", (x, -1, 5, "x"))):
+                (2, "MATCH", (root_strand(Span(3, 4)), [[1, 3, 4]])), (True, "AND", (x, [[x]])), ("x", "SWITCH", (x, -1, 5, "x")),
+                ([[x * x + 6, x * x + x * 2 + 1]], "MMULT", ([[x, 2]], [[x, x], [3, x + Ratio(1, 2)]])), ([[x], [-1], ["A"]], "UNIQUE", (
+                    [[x], [-1], [x], ["A"], [-1], ["a"]],))):
             self.tells(told, name, *arguments)
         for name, arguments in (("MAX", (x, Ratio(1))), ("INT", (x,)), ("SORT", (Grid([[x], [Ratio(1)]]),)),
                                 ("IF", (root_strand(WIDE), True)), ("COUNTIF", (Grid([[x]]), ">2")),

@@ -38,6 +38,17 @@ class Sorting(BookCase):
             sort_rows(book, "A1:C7", by)
             self.assertEqual("".join(column(book, "C", 7)), told, by)
 
+    def test_an_area_somewhere(self):
+        book = book_of({"C5": "2", "D5": "x", "E5": "a", "C6": "1", "D6": "y", "E6": "b", "C7": "3", "D7": "w", "E7": "c", "B5": "p",
+                        "F7": "q", "C4": "9", "D8": "v"})
+        for by, told in (([(1, False)], "bac"), ([(2, False)], "cab"), ([(3, False)], "abc"), ([(2, True)], "bac")):
+            sort_rows(book, "C5:E7", by)
+            self.assertEqual("".join(book.text_of(f"E{row}") for row in range(5, 8)), told)
+        self.texts(book, {"C4": "9", "B5": "p", "C5": "1", "D5": "y", "E5": "b", "C6": "2", "D6": "x", "E6": "a", "C7": "3", "D7": "w",
+                          "E7": "c", "F7": "q", "D8": "v"})
+        for pair in ((4, True), (0, True)):
+            self.stays_bad(book, pair, sort_rows, book, "C5:E7", [pair])
+
     def test_formulas_go_along(self):
         book = book_of({"A1": "3", "B1": "=A1+$A$1+D1", "A2": "1", "B2": "=A1", "A3": "=A2+1", "D1": "=A1+SUM(A1:A3)"}, {"it.x": "A1"})
         sort_rows(book, "A1:B3", [(1, False)])

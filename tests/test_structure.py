@@ -122,6 +122,16 @@ class Room(BookCase):
         self.assertIsNone(close_cells(book=book, area="B2:C3", up=False))
         self.texts(book, {"B2": "1", "C3": "2", "D4": "3", "A9": "=B2+B3:C3+B2:B4+B:B+2:3+2:9+A2"})
 
+    def test_references_within_the_rows_alone(self):
+        text = "B1+B2+B3+B4+B1:C2+B2:C3+B3:C4+B1:C4+B2:C2+B3:C3+2:3+1:2+B:C+D2:E2"
+        book = book_of({"A9": "=" + text})
+        open_cells(book, "B2:B3", down=False)
+        self.assertEqual(book.text_of("A9"), "=B1+C2+C3+B4+B1:C2+C2:D3+B3:C4+B1:C4+C2:D2+C3:D3+2:3+1:2+B:C+E2:F2")
+        close_cells(book, "B2:B3", up=False)
+        self.assertEqual(book.text_of("A9"), "=" + text)
+        close_cells(book, "B2:B3", up=False)
+        self.assertEqual(book.text_of("A9"), "=B1+#REF+#REF+B4+B1:C2+B2:B3+B3:C4+B1:C4+B2:B2+B3:B3+2:3+1:2+B:C+C2:D2")
+
     def test_closed(self):
         book = book_of({"A1": "1", "A2": "2", "B2": "3", "A5": "=B3", "C1": "=A1+A2+A2:A3+A1:A2+A3:A4+A2:B2+A:A+2:2+A1:A1000000"})
         close_cells(book, "A2:A3")

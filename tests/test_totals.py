@@ -148,5 +148,7 @@ class Counts(Calls, Case):
         turned = [[1, 2, 3, 4, 5]]
         for name, arguments in (("SUMIF", (self.keys, "a", turned)), ("AVERAGEIF", (self.keys, "a", [[1], [2]])),
                                 ("COUNTIFS", (self.keys, "a", turned, 1)), ("SUMIFS", (turned, self.keys, "a")),
+                                ("SUMIF", ([[1], [2]], 1, [[1, 2], [3, 4]])),
+                                ("COUNTIFS", ([[1], [2]], 1, [[1, 2], [3, 4]], 1)),
                                 ("MINIFS", (self.sums, self.keys, "a", turned, 1)), ("MAXIFS", (5, self.keys, "a"))):
             self.tells("#VALUE", name, *arguments)

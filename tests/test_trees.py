@@ -74,6 +74,18 @@ class Formulas(Case):
         self.assertIs(is_formula(("call", "F", (ONE, deep))), True)
         self.assertIs(is_formula(("call", "F", (ONE, ("plus", deep)))), False)
         self.assertIs(is_formula(("+", deep, ("call", "F", (ONE, ("blank",))))), True)
+        self.assertIs(is_formula(("+", ONE, nested(59))), False)
+        self.assertIs(is_formula(("+", nested(59), ONE)), False)
+        left = right = deep
+        for _ in range(2):
+            left, right = ("+", left, ONE), ("*", ONE, right)
+            self.assertEqual([is_formula(left), is_formula(right)], [left[1] == deep] * 2)
+        empty = ("call", "F", (ONE, ("blank",)))
+        for many, told in ((57, True), (58, True), (59, False)):
+            formula = empty
+            for _ in range(many):
+                formula = ("plus", formula)
+            self.assertIs(is_formula(formula), told)
 
     def test_wrong_arguments(self):
         for value in NO_FORMULAS + [nested(60)]:

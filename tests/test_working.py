@@ -47,6 +47,41 @@ class References(BookCase):
         book = book_of({"A3": "1", "Tax!A9": "1", "Tax!B1": "=ROWS(Sheet1!A:A)*100+ROWS(A:A)"}, sheets=("Tax",))
         self.values(book, {"Tax!B1": 309})
 
+    def test_ends_of_whole_columns_and_rows(self):
+        # Other areas that the formula sees do not count, nor do other sheets, nor what spills beside them.
+        book = book_of({"A2": "1", "A4": "1", "A3": "1", "B9": "1", "C1": "={1;2;3;4;5;6;7}", "E1": "=ROWS(A:A)+SUM(B1:B99)",
+                        "F1": "=ROWS(A:A)*100+ROWS(Tax!A:A)", "G1": "=ROWS(C:C)+SUM(B1:B99)", "Tax!A1": "={1;2;3;4;5;6}",
+                        "Tax!B1": "=ROWS(sheet1!A:A)"}, sheets=("Tax",))
+        self.values(book, {"E1": 5, "F1": 406, "G1": 8, "Tax!B1": 4})
+        book = book_of({"B20": "1", "D20": "1", "C20": "1", "I21": "1", "A22": "={1,2,3,4,5,6,7}", "A1": "=COLUMNS(20:20)+SUM(A21:Z21)",
+                        "A2": "=COLUMNS(20:21)", "A3": "=COLUMNS(22:22)", "A4": "=COLUMNS(20:20)*100+COLUMNS(Tax!9:9)",
+                        "A5": "=COLUMNS(19:21)", "A6": "=COLUMNS(20:22)", "A7": "=COLUMNS(21:22)", "A8": "=COLUMNS(22:30)",
+                        "A9": "=COLUMNS(18:20)", "Tax!A9": "={1,2,3,4,5,6}"}, sheets=("Tax",))
+        self.values(book, {"A1": 5, "A2": 9, "A3": 7, "A4": 406, "A5": 9, "A6": 9, "A7": 9, "A8": 7, "A9": 4})
+        # The longest one of several spills counts.
+        book = book_of({"A1": "={1;2;3;4;5}", "A7": "={1;2}", "B1": "={1;2;3}", "D1": "=ROWS(A:A)", "D2": "=ROWS(A:B)",
+                        "D3": "=ROWS(B:B)", "D4": "=ROWS(C:C)"})
+        self.values(book, {"D1": 8, "D2": 8, "D3": 3, "D4": 1})
+        book = book_of({"A7": "={1;2}", "B1": "={1;2;3}", "D1": "=ROWS(A:B)"})
+        book.put("A1", "={1;2;3;4}")
+        self.values(book, {"D1": 8})
+
+    def test_one_cell_at_a_single_place_is_a_value(self):
+        book = book_of({"A1": "3", "B1": "=SUM(A1&\"5\")", "B2": "=SUM({\"3\"}&\"5\")", "B3": "=SUM(A1,\"4\")", "B4": "=SUM({\"4\"})",
+                        "B5": "=SUM(A1=3)", "B6": "=AND(A1&\"\",TRUE)", "B7": "=COUNT(-A1,-\"x\")", "B8": "=SUM(+A1&1)",
+                        "B9": "=SUM(IF(TRUE,{\"4\"}))"})
+        self.values(book, {"B1": 35, "B2": 35, "B3": 7, "B4": 0, "B5": 1, "B6": "#VALUE", "B7": 1, "B8": 31, "B9": 0})
+
+    def test_names_of_names(self):
+        # Each name is worked once for a formula, however often it is written.
+        names = {"n0.x": "A1+ROW()"}
+        names.update({f"n{at}.x": f"n{at - 1}.x+n{at - 1}.x" for at in range(1, 40)})
+        book = book_of({"A1": "1", "B1": "=n39.x", "B2": "=n39.x-n38.x", "B3": "=n1.x*{1,2}"}, names)
+        self.values(book, {"B1": 2 * 2 ** 39, "B2": 3 * 2 ** 38, "B3": 8, "C3": 16})
+        book.put("A1", "2")
+        self.worked(book, "B1 B2 B3")
+        self.values(book, {"B1": 3 * 2 ** 39})
+
     def test_calls(self):
         book = book_of({"A1": "=FOO(1/0)", "A2": "=ABS(1,2)", "A3": "=ABS()", "A4": "=SUM(,)", "A5": "=IF(FALSE,1,)", "A6": "=NA()",
                         "A7": "=SUM()", "A8": "=IFS(TRUE,1,FALSE)", "A9": "=foo.bar(1)", "B1": "=COUNT(,)", "B2": "=IF(TRUE,)",
@@ -69,6 +104,11 @@ class References(BookCase):
         self.fails(TooHigh, {"most": 3000}, book.value_of, "C1")
         book.put("A1", HIGH)
         self.fails(TooHigh, {"most": 3000}, book.value_of, "E4")
+        # What a cell holds in the reach of a formula without a value stays its value.
+        book = book_of({"A1": "=SEQUENCE(3)*10^64^50", "A2": "5", "B3": "x"})
+        self.values(book, {"A2": 5, "B3": "x", "B1": None})
+        for place in ("A1", "A3"):
+            self.fails(TooHigh, {"most": 3000}, book.value_of, place)
         # A number of just so many digits has a value.
         book = book_of({"A1": "=10^60^49*10^59*(10^1-0.1^0)", "A2": "=A1+A1", "A3": "=A1*1"})
         self.assertEqual(book.value_of("A1"), Ratio(9 * 10 ** 2999))
@@ -175,6 +215,20 @@ class Changes(BookCase):
         # What hung on a formula that is gone.
         book.put("A1", "")
         self.worked(book, "C1")
+        # What hung on a touched formula ahead of the change alone.
+        book = book_of({"A1": "=SEQUENCE(3)", "B1": "=A1#", "D9": "=B2", "D1": "=D9", "E9": "=B4"})
+        self.values(book, {"D9": 2, "D1": 2, "E9": 0})
+        book.put("A1", "=5")
+        self.worked(book, "A1 B1 D9 D1")
+        self.values(book, {"D9": 0, "D1": 0, "B1": 5})
+        book.put("A1", "=SEQUENCE(4)")
+        self.worked(book, "A1 B1 D9 D1 E9")
+        self.values(book, {"D9": 2, "D1": 2, "E9": 4})
+        book = book_of({"B1": "=it.x", "D9": "=B2"}, {"it.x": "SEQUENCE(3)"})
+        self.values(book, {"D9": 2})
+        book.define("it.x", "7")
+        self.worked(book, "B1 D9")
+        self.values(book, {"D9": 0})
 
     def test_names_and_sheets(self):
         book = book_of({"A1": "=rate", "A2": "=deep", "A3": "=A2", "A4": "=5", "Tax!A1": "=other"}, {"deep": "rate+1"}, ("Tax",))
