@@ -129,22 +129,26 @@ def _keys_sharing(table, rect, held):
 def _table_behind(table, changes):
     """A dict of tuples of keys behind some changes, triples of a key, its places ahead and those behind them."""
     told = {place: table[place] for place in table}
-    gone = {}
-    for key, old, _ in changes:
-        for place in old:
-            gone.setdefault(place, {})[key] = True
-    for place, keys in gone.items():
-        told[place] = tuple([key for key in told[place] if key not in keys])
-    added = {}
-    for key, _, fresh in changes:
-        for place in fresh:
-            added.setdefault(place, []).append(key)
-    for place, keys in added.items():
-        told[place] = told.get(place, ()) + tuple(keys)
+    gone = _keys_by_place([(key, old) for key, old, _ in changes])
+    for place in gone:
+        lost = {key: True for key in gone[place]}
+        told[place] = tuple([key for key in told[place] if key not in lost])
+    added = _keys_by_place([(key, fresh) for key, _, fresh in changes])
+    for place in added:
+        told[place] = told.get(place, ()) + tuple(added[place])
     for place in gone:
         if not told[place]:
             del told[place]
     return told
+
+
+def _keys_by_place(pairs):
+    """A dict from places to the lists of the keys that are told with them; of pairs of a key and its places."""
+    found = {}
+    for key, places in pairs:
+        for place in places:
+            found.setdefault(place, []).append(key)
+    return found
 
 
 def _near_cells(rects):
