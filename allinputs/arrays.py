@@ -40,7 +40,7 @@ def sign_over(sign, one, other):
     if not isinstance(one, Grid) and not isinstance(other, Grid):
         return operated(sign, one, other)
     size = _size_of_all([thing for thing in (one, other) if isinstance(thing, Grid)])
-    return _worked_over(size, _SignAt(sign, one, other))
+    return _worked_over(size, SignAt(sign, one, other))
 
 
 def negative_over(thing):
@@ -58,10 +58,10 @@ def call_over(name, many, known, here):
         return called_by(name, many, known, here)
     spread = [at for at in range(many) if sorts[at] != "wide" and isinstance(known[at], Grid)]
     size = _size_of_all([known[at] for at in spread])
-    return _worked_over(size, _CallAt(name, [known[at] for at in range(many)], spread, here))
+    return _worked_over(size, CallAt(name, [known[at] for at in range(many)], spread, here))
 
 
-class _SignAt:
+class SignAt:
     """A sign of operation that works once for each place."""
 
     def __init__(self, word, one, other):
@@ -74,7 +74,7 @@ class _SignAt:
         return operated(self.word, _thing_for(self.one, row, column), _thing_for(self.other, row, column))
 
 
-class _CallAt:
+class CallAt:
     """A call that works once for each place; the grids at some places are spread."""
 
     def __init__(self, name, things, spread, here):

@@ -1,7 +1,5 @@
 """The order in which things that depend on each other are worked; which ones depend on themselves."""
 
-from heapq import heappop, heappush
-
 
 def rings_among(edges):
     """The list of the rings, lists in order, of things that lead to each other, or of one that leads to itself.
@@ -10,7 +8,7 @@ def rings_among(edges):
     things are tuples, and the rings come in the order of their first ones.
     """
     rings = []
-    for group in _Search(edges).all_groups():
+    for group in Search(edges).all_groups():
         if len(group) > 1 or group[0] in edges[group[0]]:
             rings.append(sorted(group))
     return sorted(rings)
@@ -27,23 +25,33 @@ def in_turn(edges):
         for other in edges[thing]:
             if other in ahead:
                 ahead[other] = ahead[other] + 1
-    queue = []
-    for thing in ahead:
-        if ahead[thing] == 0:
-            heappush(queue, thing)
+    # Those that may come next stand backwards, so that the first one is taken from the end.
+    ready = sorted([thing for thing in ahead if ahead[thing] == 0])[::-1]
     told = []
-    while queue:
-        thing = heappop(queue)
+    while ready:
+        thing = ready.pop()
         told.append(thing)
         for other in edges[thing]:
             if other in ahead:
                 ahead[other] = ahead[other] - 1
                 if ahead[other] == 0:
-                    heappush(queue, other)
+                    ready.insert(_place_among(ready, other), other)
     return told
 
 
-class _Search:
+def _place_among(ready, thing):
+    """The place of a thing in a list of others that come backwards."""
+    low, high = 0, len(ready)
+    while low < high:
+        middle = (low + high) // 2
+        if ready[middle] > thing:
+            low = middle + 1
+        else:
+            high = middle
+    return low
+
+
+class Search:
     """A search for the greatest groups of things that lead to each other: Tarjan's way, without calls within calls.
 
     The least number of a thing is that of the first one, of those that still wait for their group, it leads back to.

@@ -12,7 +12,7 @@ from allinputs.values import Fault
 _LEAVES = ("number", "text", "truth", "fault", "array", "cell", "spill", "area", "blank")
 
 
-class _Step:
+class Step:
     """A formula that is worked: its parts are worked one after another, as far as they are needed."""
 
     def __init__(self, formula, parts):
@@ -103,8 +103,8 @@ class Worker:
     def _step(self, formula):
         """The step for a formula that has parts, or for a name."""
         if formula[0] == "name":
-            return _Step(formula, (self.mesh.setting.named[formula[1]],))
-        return _Step(formula, parts_of(formula))
+            return Step(formula, (self.mesh.setting.named[formula[1]],))
+        return Step(formula, parts_of(formula))
 
     def _leaf(self, formula, cell, is_single):
         """What a formula that is told without its parts tells in a cell."""

@@ -18,7 +18,7 @@ MOST_FORMULA_CHARACTERS = 2000
 MOST_OPEN = 60
 
 
-class _Bracket:
+class Bracket:
     """What was read within a bracket that is still open, or within none.
 
     Parts are kept as pairs of a formula and its height; of those above the greatest height the height alone.
@@ -74,14 +74,14 @@ class _Bracket:
         self.operands.append(_joined((self.signs.pop(),), [left, right]))
 
 
-class _Reading:
+class Reading:
     """A formula text that is read; base is the cell from which the relative notation is seen, or None."""
 
     def __init__(self, text, base):
         self.text = text
         self.base = base
         self.at = 1
-        self.brackets = [_Bracket(None)]
+        self.brackets = [Bracket(None)]
         self.needs_operand = True
 
     def whole_text(self):
@@ -195,7 +195,7 @@ class _Reading:
 
     def _begin(self, word, at):
         """A bracket begins, maybe that of a call."""
-        self.brackets.append(_Bracket(word))
+        self.brackets.append(Bracket(word))
         self.at = at
         self.needs_operand = True
 
@@ -234,7 +234,7 @@ def _read(text, base):
     _check_brackets(text)
     if not text.startswith("="):
         raise NotAFormula(0)
-    formula, height = _Reading(text, base).whole_text()
+    formula, height = Reading(text, base).whole_text()
     if height > MOST_HEIGHT:
         raise TooMany(MOST_HEIGHT)
     return formula

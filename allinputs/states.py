@@ -32,7 +32,7 @@ class State:
         return not any([other in self.failed for other in self.held.mesh.reaching(cell)])
 
 
-class _Run:
+class Run:
     """Formulas that are worked anew, on top of what is known of all others."""
 
     def __init__(self, mesh, known, spills, owners, failed):
@@ -117,7 +117,7 @@ class _Run:
 def fresh_state(held):
     """The State of what a book holds, all formulas worked."""
     mesh = held.mesh_by(None)
-    run = _Run(mesh, {}, {}, {}, {})
+    run = Run(mesh, {}, {}, {}, {})
     run.hold(list(held.contents))
     run.work({cell: mesh.hanging_on(cell) for cell in mesh.sights})
     return State(held, run)
@@ -132,7 +132,7 @@ def state_behind(state, held):
     if old.tabs != held.tabs or len(cells) * 2 > len(held.contents):
         return fresh_state(held)
     edges = touched(old, held)
-    run = _Run(mesh, _copied(state.known), _copied(state.spills), _copied(state.owners), _copied(state.failed))
+    run = Run(mesh, _copied(state.known), _copied(state.spills), _copied(state.owners), _copied(state.failed))
     run.forget(cells + list(edges))
     run.hold(cells)
     run.work(edges)

@@ -45,6 +45,7 @@ ALLOWED = (
 )
 CHANGING = {"append", "extend", "insert", "pop", "remove", "reverse", "clear", "update", "setdefault", "add", "discard"}
 HEAPS = {"heappush", "heappop", "heapify"}
+COMPARING = {"__eq__", "__ne__", "__lt__", "__le__", "__gt__", "__ge__", "__len__", "__str__", "__repr__"}
 
 
 def sources():
@@ -117,15 +118,34 @@ def is_new_name(part, made):
     return all(isinstance(value, (ast.List, ast.ListComp)) or is_new(value, {}, True) for value in made[part.id])
 
 
-def run_by_operators(trees):
-    """The functions that operators, equalities and texts of objects run, by bare names: pairs of a place and a node."""
+def wrong_classes(trees):
+    """The places of classes, at any depth, whose names do not begin with a letter."""
+    return [f"{name}.py:{node.lineno}" for name, tree in trees.items() for node in ast.walk(tree)
+            if isinstance(node, ast.ClassDef) and not re.match("[A-Za-z]", node.name)]
+
+
+def wrong_beside_heaps(trees):
+    """Where what equality, order and texts run stores an attribute, in a package that imports from heapq."""
+    if not any(isinstance(node, ast.ImportFrom) and node.module == "heapq" for tree in trees.values()
+               for node in ast.walk(tree)):
+        return []
+    return [f"{place}: {ast.unparse(node)}" for place, function in run_by_operators(trees, COMPARING)
+            if function.name != "__init__" for node in ast.walk(function)
+            if isinstance(node, ast.Attribute) and isinstance(node.ctx, (ast.Store, ast.Del))]
+
+
+def run_by_operators(trees, only=None):
+    """The functions that operators, equalities and texts of objects run, by bare names: pairs of a place and a node.
+
+    Of some double-underscore methods only, if these are told.
+    """
     functions = {}
     starts = []
     for name, tree in trees.items():
         for node in ast.walk(tree):
             if isinstance(node, ast.FunctionDef):
                 functions.setdefault(node.name, []).append((f"{name}.py:{node.lineno}", node))
-                if re.fullmatch("__.*__", node.name) and node.name != "__init__":
+                if re.fullmatch("__.*__", node.name) and node.name != "__init__" and (only is None or node.name in only):
                     starts.append(node.name)
             elif isinstance(node, ast.ClassDef):
                 for inner in node.body:
@@ -414,6 +434,30 @@ class Rules(unittest.TestCase):
             self.assertEqual(wrong_in_operators({"box": ast.parse(text)}), [], text)
         text = "class Box:\n    def __neg__(self):\n        return self.turn()\n    def turn(self):\n        self.n = 1\n"
         self.assertEqual(len(wrong_in_operators({"box": ast.parse(text)})), 1)
+
+    def test_names_of_classes(self):
+        self.assertEqual(wrong_classes(self.trees), [])
+        for text in ("class _Box:\n    pass\n", "class Box:\n    class _Row:\n        pass\n",
+                     "def made():\n    if True:\n        class _Box:\n            pass\n    return 1\n"):
+            self.assertEqual(len(wrong_classes({"box": ast.parse(text)})), 1, text)
+        self.assertEqual(wrong_classes({"box": ast.parse("class Box:\n    def _low(self):\n        return 1\n")}), [])
+
+    def test_nothing_is_stored_beside_heaps(self):
+        self.assertEqual(wrong_beside_heaps(self.trees), [])
+
+    def test_what_is_stored_beside_heaps_is_looked_at(self):
+        heaps = ast.parse("from heapq import heappop, heappush\n")
+        for first in ("__eq__", "__lt__", "__str__", "__len__"):
+            text = (f"class Box:\n    def {first}(self, other):\n        return step(other)\n"
+                    "def step(other):\n    return made(other)\n"
+                    "def made(other):\n    box = Box()\n    box.n = other\n    return box\n")
+            tree = ast.parse(text)
+            self.assertEqual(len(wrong_beside_heaps({"box": tree, "heaps": heaps})), 1, text)
+            self.assertEqual(wrong_beside_heaps({"box": tree}), [], text)
+        text = ("class Box:\n    def __init__(self, n):\n        self.n = n\n    def __eq__(self, other):\n"
+                "        return made(other)\n    def change(self):\n        self.n = 1\n"
+                "def made(other):\n    return Box(other)\n")
+        self.assertEqual(wrong_beside_heaps({"box": ast.parse(text), "heaps": heaps}), [])
 
     def test_underscore_is_never_read(self):
         for place, node in self.walk(ast.Name):
