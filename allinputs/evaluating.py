@@ -65,10 +65,16 @@ class Worker:
         # The last rows, by sheets and columns, and the last columns, by sheets and rows, in which cells hold something.
         self.deepest = None
         self.widest = None
+        # The Sight of the formula that is worked now.
+        self.sight = None
 
     def result_at(self, cell):
         """What the formula of a cell tells: a value or a Grid."""
-        formula = self.mesh.contents[cell]
+        return self.result_of(self.mesh.contents[cell], cell, self.mesh.sights[cell])
+
+    def result_of(self, formula, cell, sight):
+        """What a formula with a Sight tells in a cell, whatever this cell holds."""
+        self.sight = sight
         if self._is_leaf(formula):
             return self._leaf(formula, cell, False)
         steps = [self._step(formula)]
@@ -135,7 +141,7 @@ class Worker:
         elif node[0] != "area" and is_single:
             return self.known.get(rect[:3])
         elif node[0] == "area" and node[1].whole is not None:
-            rect = self._cut(rect, node[1].whole, self.mesh.sights[cell])
+            rect = self._cut(rect, node[1].whole)
         if many_cells(rect) > MOST_VALUES:
             return Fault("NUM")
         return self._grid(rect)
@@ -148,15 +154,15 @@ class Worker:
         rows = [tuple([known.get((sheet, row, column)) for column in columns]) for row in range(top, bottom + 1)]
         return made_grid(tuple(rows), (top, left))
 
-    def _cut(self, rect, whole, sight):
-        """The rectangle of whole columns, or rows, up to the last row, or column, that counts for a formula."""
+    def _cut(self, rect, whole):
+        """The rectangle of whole columns, or rows, up to the last row, or column, that counts for the formula."""
         sheet, top, left, bottom, right = rect
         if self.deepest is None:
             self._look_at_ends()
         if whole == "columns":
-            peers = [peer for peer in sight.columns if peer[0] == sheet]
+            peers = [peer for peer in self.sight.columns if peer[0] == sheet]
             return sheet, top, left, self._last(self.deepest, peers, 0), right
-        peers = [peer for peer in sight.rows if peer[0] == sheet]
+        peers = [peer for peer in self.sight.rows if peer[0] == sheet]
         return sheet, top, left, bottom, self._last(self.widest, peers, 1)
 
     def _last(self, ends, peers, side):

@@ -37,6 +37,17 @@ class Holding:
         return other.mesh is not None and self.tabs == other.tabs and self.name_texts == other.name_texts
 
 
+def held_with(held, numbers):
+    """What a book holds if some of its cells hold numbers, told as a dict to Ratios."""
+    contents = {cell: held.contents[cell] for cell in held.contents}
+    texts = {cell: held.texts[cell] for cell in held.texts}
+    for cell, number in numbers.items():
+        contents[cell] = number
+        # Any text will do by which contents are told apart.
+        texts[cell] = str(number)
+    return Holding(held.tabs, contents, texts, held.named, held.name_texts)
+
+
 def unlike(one, other):
     """The list of the keys for which two dicts of texts do not have the same."""
     keys = [key for key in one if one[key] != other.get(key)]

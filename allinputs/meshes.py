@@ -103,20 +103,29 @@ class Mesh:
 
     def hangs_on_cells(self, cell):
         """A list, without one twice, of the formulas on which that of a cell hangs by one step."""
-        found = {}
         areas = self.sights[cell].areas
-        for rect in areas:
-            for other in cells_held_in(rect, self.sights):
-                found[other] = True
-        own = self.reach_of_cell(cell) if self.size_at(cell) != ALONE else None
-        for other in self.sizes:
-            if self.sizes[other] != ALONE:
-                rects = areas if own is None or other[0] != cell[0] or other >= cell else areas + (own,)
-                reach = self.reach_of_cell(other)
-                shared = [met_rect(rect, reach) for rect in rects]
-                if any([rect is not None and has_other(rect, self.contents) for rect in shared]):
+        found = {other: True for other in self.formulas_seen(areas)}
+        if self.size_at(cell) != ALONE:
+            for other in self._spilling_into((self.reach_of_cell(cell),)):
+                if other[0] == cell[0] and other < cell:
                     found[other] = True
         return list(found)
+
+    def formulas_seen(self, areas):
+        """A list, without one twice, of the formulas in some rectangles, or that may spill into them."""
+        found = {other: True for rect in areas for other in cells_held_in(rect, self.sights)}
+        for other in self._spilling_into(areas):
+            found[other] = True
+        return list(found)
+
+    def _spilling_into(self, rects):
+        """A list of the formulas in whose reach a cell of some rectangles lies that holds nothing."""
+        found = []
+        for reach, others in self.reached.whole.items():
+            shared = [met_rect(rect, reach) for rect in rects]
+            if any([rect is not None and has_other(rect, self.contents) for rect in shared]):
+                found.extend(others)
+        return found
 
 
 def _seen_changes(cells, old, fresh):

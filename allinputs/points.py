@@ -171,7 +171,7 @@ def _order_of(one, other):
     place, beside = one.place, other.place
     if parts == peers and place == beside:
         return 0
-    if _meet(parts, place, peers, beside):
+    if _share(place, beside) and _meet(parts, place, peers, beside):
         return 0
     bits = 8
     while True:
@@ -184,6 +184,13 @@ def _order_of(one, other):
         place = narrowed(parts, place, bits)
         beside = narrowed(peers, beside, bits)
         bits = 2 * bits
+
+
+def _share(place, beside):
+    """Whether two open intervals have numbers in common."""
+    low, high, bottom = place
+    least, most, below = beside
+    return low * below < most * bottom and least * bottom < high * below
 
 
 def _meet(parts, place, peers, beside):

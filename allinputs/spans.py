@@ -12,7 +12,7 @@ class Span:
     def __init__(self, low, high):
         self.low = _end_of(low)
         self.high = _end_of(high)
-        if self.low is not None and self.high is not None and _order_of_ends(self.low, self.high) >= 0:
+        if self.low is not None and self.high is not None and order_of_ends(self.low, self.high) >= 0:
             raise BadValue(high)
 
     def __eq__(self, other):
@@ -103,7 +103,7 @@ def _end_of(end):
     return None if end is None else as_ratio(end)
 
 
-def _order_of_ends(one, other):
+def order_of_ends(one, other):
     """-1, 0 or 1, if an end is less than, equal to or greater than another one; neither is None."""
     if isinstance(other, Point):
         return -other.compare(one)

@@ -69,7 +69,7 @@ class Run:
         for cell in self.failed:
             for other in self.mesh.hanging_on(cell):
                 self.barred[other] = True
-        ringed, rest = _parted(edges)
+        ringed, rest = parted(edges)
         for cell in ringed:
             self.known[cell] = Fault("RING")
         for cell in in_turn(rest):
@@ -94,10 +94,10 @@ class Run:
     def _settle(self, cell, thing):
         """Gives the cell, and those into which it spills, the values of what its formula tells."""
         if not isinstance(thing, Grid):
-            self.known[cell] = _not_blank(thing)
+            self.known[cell] = not_blank(thing)
             return
         if thing.height * thing.width == 1:
-            self.known[cell] = _not_blank(thing.rows[0][0])
+            self.known[cell] = not_blank(thing.rows[0][0])
             return
         sheet, top, left = cell
         if top + thing.height - 1 > ROWS or left + thing.width - 1 > COLUMNS:
@@ -109,7 +109,7 @@ class Run:
             return
         self.spills[cell] = (thing.height, thing.width)
         for other, value in zip(cells, thing.cells()):
-            self.known[other] = _not_blank(value)
+            self.known[other] = not_blank(value)
             if other != cell:
                 self.owners[other] = cell
 
@@ -141,7 +141,7 @@ def state_behind(state, held):
 
 def worked_in_turn(edges):
     """The list of formulas, told as a dict to the lists of those that hang on them, in the order of working."""
-    ringed, rest = _parted(edges)
+    ringed, rest = parted(edges)
     return sorted(list(ringed)) + in_turn(rest)
 
 
@@ -178,14 +178,14 @@ def _first_touched(before, behind, cells, names):
     return queue
 
 
-def _parted(edges):
+def parted(edges):
     """The dict of the formulas in rings, and all others with the lists of those that hang on them."""
     ringed = {cell: True for ring in rings_among(edges) for cell in ring}
     rest = {cell: [other for other in edges[cell] if other not in ringed] for cell in edges if cell not in ringed}
     return ringed, rest
 
 
-def _not_blank(value):
+def not_blank(value):
     """A value as it is, 0 for a blank."""
     return Ratio(0) if value is None else value
 
