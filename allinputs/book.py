@@ -230,14 +230,14 @@ def _check_content(content):
     if isinstance(content, bool):
         return
     if isinstance(content, str):
-        is_right = _is_content_text(content)
+        is_right = is_content_text(content)
     else:
         is_right = is_ratio(content) and _has_short_text(as_ratio(content))
     if not is_right:
         raise BadValue(content)
 
 
-def _is_content_text(text):
+def is_content_text(text):
     """Whether a string is one that put takes as a content."""
     if text.startswith("="):
         return len(text) <= MOST_FORMULA_CHARACTERS

@@ -66,10 +66,8 @@ def turned_about(table):
 
 def _all_sources(mesh, users, placed):
     """The dict from the cells of formulas in no ring, and of placed ones, to the lists of those on which they hang."""
-    sources = {cell: [] for cell in users}
-    for cell in users:
-        for other in users[cell]:
-            sources[other].append(cell)
+    found = turned_about(users)
+    sources = {cell: found.get(cell, []) for cell in users}
     for cell, (_, sight) in placed.items():
         sources[cell] = [other for other in mesh.formulas_seen(sight.areas) if other in users]
     return sources

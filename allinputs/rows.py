@@ -30,7 +30,7 @@ class Row:
         self.spans = spans
         self.points = points
         self.ends = ends
-        self.is_level = not marks and not has_x(spans[0]) and goes_on(spans[0], ends[0], ends[1])
+        self.is_constant = not marks and not has_x(spans[0]) and goes_on(spans[0], ends[0], ends[1])
         # The things at marks within a span, by the numbers of the marks.
         self.known = {}
 
@@ -72,6 +72,16 @@ class Row:
 def level_row(thing):
     """The Row of one thing without x."""
     return Row([], [thing], [], (thing, thing))
+
+
+def are_alike_rows(one, other):
+    """Whether two Rows of one range tell the same."""
+    if [mark.number for mark in one.marks] != [mark.number for mark in other.marks]:
+        return False
+    points = list(zip(one.points + list(one.ends), other.points + list(other.ends)))
+    if not all([_are_one_curve(thing, peer) for thing, peer in zip(one.spans, other.spans)]):
+        return False
+    return all([_are_one_curve(thing, peer) for thing, peer in points])
 
 
 def x_row(ruler):

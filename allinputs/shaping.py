@@ -1,19 +1,13 @@
 """Functions: arranging."""
 
+from allinputs.alikerows import first_alike_rows
 from allinputs.arranging import arranged
 from allinputs.grids import MOST_VALUES, Grid
-from allinputs.ordering import small_letters, sort_order
+from allinputs.ordering import sort_order
 from allinputs.places import first_fault, given, ready, whole_within
 from allinputs.ratios import Ratio
 from allinputs.turning import to_truth
-from allinputs.values import Fault, is_number, same
-
-
-def alike(one, other):
-    """Whether two values are the same but for capitals."""
-    if isinstance(one, str) and isinstance(other, str):
-        return small_letters(one) == small_letters(other)
-    return same(one, other)
+from allinputs.values import Fault
 
 
 def arranged_by(pairs, is_down):
@@ -31,49 +25,6 @@ def _pairs_downwards(one, other):
     if one[0] is None or other[0] is None:
         return sort_order(one[0], other[0])
     return sort_order(other[0], one[0])
-
-
-def first_alike_rows(rows):
-    """The list of the rows, tuples of values, without those that are alike to an earlier one."""
-    kept = []
-    special = []
-    seen = {}
-    for row in rows:
-        key = _key_of(row)
-        peers = kept if key is None else special
-        if (key is not None and key in seen) or any([_are_alike(row, peer) for peer in peers]):
-            continue
-        kept.append(row)
-        if key is None:
-            special.append(row)
-        else:
-            seen[key] = True
-    return kept
-
-
-def _key_of(row):
-    """A key that alike rows share, None for a row with a number that is no told ratio."""
-    key = []
-    for value in row:
-        if isinstance(value, Ratio):
-            key.append(("number", value.top, value.bottom))
-        elif isinstance(value, str):
-            key.append(("text", small_letters(value)))
-        elif isinstance(value, Fault):
-            key.append(("fault", value.kind))
-        elif is_number(value):
-            return None
-        else:
-            key.append(("truth", "none" if value is None else str(value)))
-    return tuple(key)
-
-
-def _are_alike(row, peer):
-    """Whether two rows are alike; of their values no more are asked than needed."""
-    for one, other in zip(row, peer):
-        if not alike(one, other):
-            return False
-    return True
 
 
 def _sort(things):

@@ -17,17 +17,17 @@ class OneNumber:
 
     def __init__(self, ruler, work):
         self.ruler = ruler
-        self.work = work
+        self.action = work
 
     def told_on(self, first, last):
         """What it tells for x on the span between two marks."""
-        work = self.work
-        return work(self.ruler.x_between(first, last))
+        action = self.action
+        return action(self.ruler.x_between(first, last))
 
     def told_at(self, mark):
         """What it tells for x at a mark."""
-        work = self.work
-        return work(mark.x)
+        action = self.action
+        return action(mark.x)
 
 
 def told_row(work, low=None, high=None):

@@ -85,13 +85,13 @@ class Run:
             except TooHigh:
                 is_told = False
         if is_told:
-            self._settle(cell, thing)
+            self.settle(cell, thing)
             return
         self.failed[cell] = True
         for other in others:
             self.barred[other] = True
 
-    def _settle(self, cell, thing):
+    def settle(self, cell, thing):
         """Gives the cell, and those into which it spills, the values of what its formula tells."""
         if not isinstance(thing, Grid):
             self.known[cell] = not_blank(thing)

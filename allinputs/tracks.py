@@ -126,11 +126,11 @@ class Tracks:
 
     def _worked(self, work, cells):
         """The Row of a formula that is worked with what some cells have."""
-        turning = [cell for cell in cells if not self.rows[cell].is_level]
+        turning = [cell for cell in cells if not self.rows[cell].is_constant]
         # Values that do not turn are taken once; spills each time, as others may spill into the same cells elsewhere.
         grids = []
         for cell in cells:
-            if self.rows[cell].is_level:
+            if self.rows[cell].is_constant:
                 if self.rows[cell].has_grid():
                     grids.append(cell)
                 else:

@@ -311,7 +311,9 @@ class Rules(unittest.TestCase):
             for token in tokenize.generate_tokens(io.StringIO(text).readline):
                 if token.type == tokenize.NAME:
                     self.assertNotIn(token.string, BARRED | {"_wall"}, f"{name}: {token.line}")
-                    self.assertFalse(token.string.startswith("__") and token.string not in DUNDERS, name)
+                    line = token.line.replace(".__class__.__name__", "")
+                    is_named = token.string in ("__class__", "__name__") and token.string not in line
+                    self.assertFalse(token.string.startswith("__") and token.string not in DUNDERS and not is_named, name)
 
     def test_strings(self):
         for place, node in self.walk(ast.Constant):
@@ -370,7 +372,7 @@ class Rules(unittest.TestCase):
         self.assertFalse(attributes & barred)
         for place, node in self.walk(ast.Attribute):
             if isinstance(node.ctx, ast.Load):
-                self.assertIn(node.attr, methods | attributes | METHODS, place)
+                self.assertIn(node.attr, methods | attributes | METHODS | {"__class__", "__name__"}, place)
 
     def test_equality_begins_with_the_class(self):
         for place, node in self.walk(ast.FunctionDef):
