@@ -5,7 +5,7 @@ from allinputs.errors import BadValue
 from allinputs.members import member
 from allinputs.points import Point
 from allinputs.polys import Poly
-from allinputs.ratios import as_ratio, is_ratio
+from allinputs.ratios import Ratio, as_ratio, is_ratio
 from allinputs.spans import Span, order_of_ends, roots_in
 from allinputs.strands import Strand
 
@@ -17,7 +17,12 @@ class Mark:
 
     def __init__(self, point, number):
         self.point = point
-        self.x = member(point, x_curve()) if isinstance(point, Point) else point
+        self.x = point
+        # A Ratio that is near enough to tell wide spans from narrow ones.
+        self.near = point
+        if isinstance(point, Point):
+            self.x = member(point, x_curve())
+            self.near = Ratio(point.place[0], point.place[2])
         # Marks are told apart by their numbers; ranks tell their order, and change as others come between.
         self.number = number
         self.rank = 0

@@ -73,7 +73,7 @@ def _ring_of_single(book, cell):
     cut = _cut_mesh(book, cell)
     ringed = {other: True for ring in _rings_of(cut) for other in ring}
     sources = turned_about({other: cut.hanging_on(other) for other in cut.sights})
-    queue = cut.formulas_seen(mesh.sights[cell].areas)
+    queue = list(cut.formulas_seen(mesh.sights[cell].areas))
     seen = {}
     while queue:
         other = queue.pop()

@@ -101,28 +101,49 @@ def worked_row(ruler, marks, work):
 
     A work tells things by told_on(first, last) on the span between two marks, or raises Turns, and by told_at(mark).
     """
-    found = []
-    spans = []
-    many = len(marks)
     bounds = [ruler.low] + marks + [ruler.high]
-    todo = [(bounds[at], bounds[at + 1]) for at in range(many, -1, -1)]
+    # The things on spans, each with the mark with which its span begins; those that are still to come, first ones last.
+    told = []
+    todo = [(bounds[at], bounds[at + 1]) for at in range(len(marks), -1, -1)]
+    many = len(marks)
     while todo:
         first, last = todo.pop()
         try:
-            spans.append(work.told_on(first, last))
+            told.append((first, work.told_on(first, last)))
         except Turns as error:
             cuts = ruler.cuts_between(error.poly, first, last)
             many = many + len(cuts)
             if not cuts or many > MOST_CUTS:
                 raise NotTold() from error
-            bounds = [first] + cuts + [last]
-            todo.extend([(bounds[at], bounds[at + 1]) for at in range(len(cuts), -1, -1)])
-            continue
-        if todo:
-            found.append(last)
+            todo.extend(_widest_last([first] + cuts + [last]))
+    spans = {-1 if first is None else first.rank: (first, thing) for first, thing in told}
+    ordered = [spans[rank] for rank in sorted(list(spans))]
+    found = [first for first, _ in ordered[1:]]
     points = [work.told_at(mark) for mark in found]
     ends = tuple([None if end is None else work.told_at(end) for end in (ruler.low, ruler.high)])
-    return _joined_row(ruler, found, spans, points, ends)
+    return _joined_row(ruler, found, [thing for _, thing in ordered], points, ends)
+
+
+def _widest_last(bounds):
+    """The list of the pairs of neighbouring marks, those farthest from each other last.
+
+    If what is asked turns without end, this is mostly seen soonest on the widest span.
+    """
+    pairs = [(bounds[at], bounds[at + 1]) for at in range(len(bounds) - 1)]
+    widest = 0
+    for at, pair in enumerate(pairs):
+        if _is_wider(pair, pairs[widest]):
+            widest = at
+    return pairs[:widest] + pairs[widest + 1:] + [pairs[widest]]
+
+
+def _is_wider(pair, other):
+    """Whether two marks are farther from each other than two others, about; None is farthest."""
+    if other[0] is None or other[1] is None:
+        return False
+    if pair[0] is None or pair[1] is None:
+        return True
+    return (pair[1].near - pair[0].near).compare(other[1].near - other[0].near) > 0
 
 
 def _joined_row(ruler, marks, spans, points, ends):
