@@ -14,6 +14,13 @@ def rings_among(edges):
     return sorted(rings)
 
 
+def parted(edges):
+    """The dict of the formulas in rings, and all others with the lists of those that hang on them."""
+    ringed = {cell: True for ring in rings_among(edges) for cell in ring}
+    rest = {cell: [other for other in edges[cell] if other not in ringed] for cell in edges if cell not in ringed}
+    return ringed, rest
+
+
 def in_turn(edges):
     """The list of all things in the order in which they are worked.
 

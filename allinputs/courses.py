@@ -1,6 +1,6 @@
 """Rings that are gone round, for all numbers at the beginning."""
 
-from allinputs.book import cell_at, check_book, mesh_of
+from allinputs.book import cell_at, check_book, mesh_of, state_of
 from allinputs.checks import check_range, check_string
 from allinputs.errors import BadValue
 from allinputs.holdings import held_with
@@ -38,7 +38,7 @@ def rounds_row(book, begin, free, cell, many, low=None, high=None):
     ruler = Ruler(low, high)
     ringed = sorted(list(placed))
     holders = list({other: True for other in ringed + [free_cell]})
-    tracks = Tracks(mesh_without(held, placed), ruler, holders, placed)
+    tracks = Tracks(state_of(book), mesh_without(held, placed), ruler, holders, placed)
     for other in ringed:
         tracks.hold(other, level_row(numbers.get(other, Ratio(0))))
     tracks.hold(free_cell, x_row(ruler))

@@ -1,24 +1,28 @@
 """Flows: what is worked behind what, where some cells hold what their formulas, or a range, tell."""
 
-from allinputs.chains import in_turn
+from allinputs.bonds import turned_about
 from allinputs.rects import cells_held_in
-from allinputs.states import parted
 
 
 class Flow:
     """The order of the formulas of a Mesh that are in no ring, and of what hangs on some cells, the holders.
 
     placed is a dict from cells, which hold no formula in the Mesh, to pairs of a formula that is worked in their place
-    and its Sight.
+    and its Sight; moving is a dict from the formulas that are worked here, all others have values from the beginning.
     """
 
-    def __init__(self, mesh, holders, placed):
+    def __init__(self, mesh, holders, placed, moving):
         self.mesh = mesh
+        self.moving = moving
         self.placed = placed
-        self.ringed, self.users = parted({cell: mesh.hanging_on(cell) for cell in mesh.sights})
-        self.ranks = {cell: rank for rank, cell in enumerate(in_turn(self.users))}
+        whole = mesh.sequence()
+        self.ringed = whole.ringed
+        self.users = whole.users
+        self.ranks = whole.ranks
         # The formulas on which others, also placed ones, hang by one step; those in rings are left out.
-        self.sources = _all_sources(mesh, self.users, placed)
+        self.sources = whole.sources
+        if placed:
+            self.sources = _with_placed(mesh, whole.sources, placed)
         # The holders that formulas see, and that placed ones see; and the formulas, placed or not, that see them.
         self.held = turned_about({cell: mesh.seen.keys_at(cell) for cell in holders})
         self.placed_held = _held_by(placed, holders)
@@ -28,12 +32,12 @@ class Flow:
     def to_work(self, cells, known):
         """The list, in the order of working, of formulas and all on which they hang that are no keys of a dict."""
         found = {}
-        queue = [cell for cell in cells if cell in self.ranks and cell not in known]
+        queue = list(cells)
         while queue:
             cell = queue.pop()
-            if cell not in found:
+            if cell in self.moving and cell in self.ranks and cell not in known and cell not in found:
                 found[cell] = True
-                queue.extend([other for other in self.sources[cell] if other not in known])
+                queue.extend(self.sources[cell])
         by_rank = {self.ranks[cell]: cell for cell in found}
         return [by_rank[rank] for rank in sorted(list(by_rank))]
 
@@ -55,22 +59,12 @@ class Flow:
         return found, placed
 
 
-def turned_about(table):
-    """A dict from all that the lists of a dict have to the lists of the keys of these, each once."""
-    told = {}
-    for key in table:
-        for thing in list({other: True for other in table[key]}):
-            told.setdefault(thing, []).append(key)
-    return told
-
-
-def _all_sources(mesh, users, placed):
-    """The dict from the cells of formulas in no ring, and of placed ones, to the lists of those on which they hang."""
-    found = turned_about(users)
-    sources = {cell: found.get(cell, []) for cell in users}
+def _with_placed(mesh, sources, placed):
+    """The dict of the lists of the formulas on which others hang, with those for placed ones."""
+    told = {cell: sources[cell] for cell in sources}
     for cell, (_, sight) in placed.items():
-        sources[cell] = [other for other in mesh.formulas_seen(sight.areas) if other in users]
-    return sources
+        told[cell] = [other for other in mesh.formulas_seen(sight.areas) if other in sources]
+    return told
 
 
 def _held_by(placed, holders):

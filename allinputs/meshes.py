@@ -1,5 +1,6 @@
 """Meshes: which formulas of a book hang on which ones."""
 
+from allinputs.bonds import Bonds, Sequence
 from allinputs.reaches import ALONE, Sizes, name_sizes, trailing_sizes
 from allinputs.rects import RectIndex, cells_held_in, has_other, met_rect, rect_from
 from allinputs.sights import Sight
@@ -25,8 +26,8 @@ class Mesh:
         self.sizes = self._sizes_behind(cells, {} if old is None else old.sizes)
         reached = RectIndex({}, {}, {}) if old is None else old.reached
         self.reached = reached.changed(self._reach_changes(cells, {} if old is None else old.sizes))
-        # What hanging_on told of cells, as it is asked for the same ones again and again.
-        self.hanging = {}
+        # What is told of hanging is kept, as it is asked for again and again.
+        self.bonds = Bonds() if old is None or self._has_other_bonds(cells, old.contents) else old.bonds
 
     def _sights_behind(self, cells, old):
         """The dict of the sights of all formulas."""
@@ -85,9 +86,23 @@ class Mesh:
 
     def hanging_on(self, cell):
         """A list, without one twice, of the formulas that hang on that of a cell by one step."""
-        if cell not in self.hanging:
-            self.hanging[cell] = self._found_hanging_on(cell)
-        return self.hanging[cell]
+        if cell not in self.bonds.hanging:
+            self.bonds.keep_hanging(cell, self._found_hanging_on(cell))
+        return self.bonds.hanging[cell]
+
+    def sequence(self):
+        """The Sequence of all formulas."""
+        if self.bonds.whole is None:
+            self.bonds.keep_whole(Sequence({cell: self.hanging_on(cell) for cell in self.sights}))
+        return self.bonds.whole
+
+    def _has_other_bonds(self, cells, old):
+        """Whether some cells hold, or held, formulas, or something where there was nothing, or the other way round."""
+        for cell in cells:
+            content, before = self.contents.get(cell), old.get(cell)
+            if isinstance(content, tuple) or isinstance(before, tuple) or (content is None) != (before is None):
+                return True
+        return False
 
     def _found_hanging_on(self, cell):
         """The same, looked for among all formulas."""

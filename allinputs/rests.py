@@ -1,12 +1,12 @@
 """Rings: single cells, and the numbers at which they are at rest."""
 
-from allinputs.book import cell_asked, cell_at, check_book, mesh_of, place_of
+from allinputs.bonds import turned_about
+from allinputs.book import cell_asked, cell_at, check_book, mesh_of, place_of, state_of
 from allinputs.chains import rings_among
 from allinputs.checks import check_string
 from allinputs.curves import Curve
 from allinputs.errors import BadValue, NotTold, TooHigh
 from allinputs.evaluating import Worker
-from allinputs.flows import turned_about
 from allinputs.grids import Grid
 from allinputs.holdings import held_with
 from allinputs.marks import Ruler, check_ends, x_curve
@@ -37,7 +37,7 @@ def rests(book, place, low=None, high=None):
         raise NotTold()
     ruler = Ruler(low, high)
     placed = {cell: (book.held.contents[cell], mesh_of(book).sights[cell])}
-    tracks = Tracks(_cut_mesh(book, cell), ruler, [cell], placed)
+    tracks = Tracks(state_of(book), _cut_mesh(book, cell), ruler, [cell], placed)
     tracks.hold(cell, x_row(ruler))
     return joined(_rests_in(told_parts(ruler, tracks.placed_row(cell))))
 
@@ -67,11 +67,10 @@ def _ring_of_single(book, cell):
     mesh = mesh_of(book)
     if cell not in mesh.sights or mesh.size_at(cell) != ALONE:
         return None
-    found = [ring for ring in _rings_of(mesh) if cell in ring]
-    if not found:
+    if cell not in mesh.sequence().ringed:
         return None
     cut = _cut_mesh(book, cell)
-    ringed = {other: True for ring in _rings_of(cut) for other in ring}
+    ringed = cut.sequence().ringed
     sources = turned_about({other: cut.hanging_on(other) for other in cut.sights})
     queue = list(cut.formulas_seen(mesh.sights[cell].areas))
     seen = {}
@@ -82,12 +81,7 @@ def _ring_of_single(book, cell):
         if other not in seen:
             seen[other] = True
             queue.extend(sources.get(other, ()))
-    return found[0]
-
-
-def _rings_of(mesh):
-    """The list of the rings of a Mesh."""
-    return rings_among({cell: mesh.hanging_on(cell) for cell in mesh.sights})
+    return [ring for ring in rings_among({other: mesh.hanging_on(other) for other in mesh.sights}) if cell in ring][0]
 
 
 def _cut_mesh(book, cell):

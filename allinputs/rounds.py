@@ -7,7 +7,7 @@ from allinputs.grids import Grid
 from allinputs.holdings import held_with
 from allinputs.ratios import Ratio, as_ratio, is_ratio
 from allinputs.reaches import ALONE
-from allinputs.states import Run, not_blank, parted
+from allinputs.states import Run, not_blank
 from allinputs.values import same
 
 
@@ -21,7 +21,7 @@ class Rounds:
         self.placed = placed
         self.ringed = sorted(list(placed))
         self.mesh = mesh_without(held, placed)
-        self.flow = Flow(self.mesh, self.ringed, self.placed)
+        self.flow = Flow(self.mesh, self.ringed, self.placed, self.mesh.sights)
         self.known = {}
         self.run = Run(self.mesh, self.known, {}, {}, {})
         self.run.hold(list(self.mesh.contents))
@@ -81,8 +81,7 @@ class Rounds:
 
 def placed_formulas(mesh):
     """The dict from the cells in rings of a Mesh to pairs of their formulas and Sights."""
-    ringed, _ = parted({cell: mesh.hanging_on(cell) for cell in mesh.sights})
-    return {cell: (mesh.contents[cell], mesh.sights[cell]) for cell in ringed}
+    return {cell: (mesh.contents[cell], mesh.sights[cell]) for cell in mesh.sequence().ringed}
 
 
 def check_gone_round(mesh, placed):

@@ -1,7 +1,7 @@
 """States of books: the values that follow from what they hold. A State does not change."""
 
 from allinputs.addresses import COLUMNS, ROWS
-from allinputs.chains import in_turn, rings_among
+from allinputs.chains import in_turn, parted
 from allinputs.errors import TooHigh
 from allinputs.evaluating import Worker
 from allinputs.grids import Grid
@@ -153,8 +153,12 @@ def touched(old, held):
     behind = held.mesh_by(old)
     if old.tabs != held.tabs:
         return {cell: behind.hanging_on(cell) for cell in behind.sights}
-    before = old.mesh_by(held)
     cells, names = unlike(old.texts, held.texts), unlike(old.name_texts, held.name_texts)
+    return touched_between(old.mesh_by(held), behind, cells, names)
+
+
+def touched_between(before, behind, cells, names):
+    """The same for the Meshes ahead of a change of cells and names and behind it."""
     queue = list(_first_touched(before, behind, cells, names))
     edges = {}
     while queue:
@@ -176,13 +180,6 @@ def _first_touched(before, behind, cells, names):
         if names:
             queue.extend([cell for cell, sight in mesh.sights.items() if any([name in sight.used for name in names])])
     return queue
-
-
-def parted(edges):
-    """The dict of the formulas in rings, and all others with the lists of those that hang on them."""
-    ringed = {cell: True for ring in rings_among(edges) for cell in ring}
-    rest = {cell: [other for other in edges[cell] if other not in ringed] for cell in edges if cell not in ringed}
-    return ringed, rest
 
 
 def not_blank(value):

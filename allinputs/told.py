@@ -1,6 +1,6 @@
 """What the cells of a book are while one of them holds any number of a range."""
 
-from allinputs.book import cell_at, check_book, mesh_of, place_of
+from allinputs.book import cell_at, check_book, place_of, state_of
 from allinputs.checks import check_string
 from allinputs.curves import Curve
 from allinputs.errors import BadValue
@@ -25,9 +25,9 @@ class Told:
         self.high = None if high is None else as_ratio(high)
         self.book = book.copied()
         self.ruler = Ruler(low, high)
-        mesh_of(book)
+        state = state_of(book)
         mesh = held_with(book.held, {self.free: Ratio(0)}).mesh_by(book.held)
-        self.tracks = Tracks(mesh, self.ruler, [self.free], {})
+        self.tracks = Tracks(state, mesh, self.ruler, [self.free], {})
         self.tracks.hold(self.free, x_row(self.ruler))
         # The told rows that were asked for.
         self.parts = {}

@@ -4,32 +4,38 @@ from allinputs.addresses import COLUMNS, ROWS
 from allinputs.errors import NotTold, TooHigh
 from allinputs.evaluating import Worker
 from allinputs.flows import Flow
-from allinputs.grids import Grid
+from allinputs.grids import Grid, made_grid
 from allinputs.rects import cells_of, has_cell, rect_from
 from allinputs.rows import all_marks, level_row, worked_row
-from allinputs.states import not_blank
+from allinputs.states import not_blank, touched_between
 from allinputs.values import Fault
+from allinputs.wholes import MOST_DIGITS
 
 
 class Tracks:
     """What follows for the formulas of a Mesh from the Rows that some of its cells hold; worked when it is asked for.
 
-    The cells that hold Rows hold numbers in the Mesh. Formulas may be worked in their places (see Flow).
+    The Mesh is that of a State but for the holders, the cells that hold Rows: they hold numbers in it. Formulas that do
+    not hang on these have the values of the State. Formulas may be worked in the place of holders (see Flow).
     """
 
-    def __init__(self, mesh, ruler, holders, placed):
+    def __init__(self, state, mesh, ruler, holders, placed):
+        self.state = state
         self.mesh = mesh
         self.ruler = ruler
-        self.flow = Flow(mesh, holders, placed)
+        # The holders, and all formulas whose values may hang on what these hold.
+        self.moving = {cell: True for cell in holders + list(touched_between(state.held.mesh, mesh, holders, []))}
+        self.flow = Flow(mesh, holders, placed, self.moving)
         # The Rows of cells; None for the formulas that are not told, of which failed has the reasons.
         self.rows = {}
-        self.failed = {}
-        # The values of cells where a formula is worked; those that are spilled there, and the spills.
-        self.known = {cell: held for cell, held in mesh.contents.items() if not isinstance(held, tuple)}
+        self.failed = {cell: MOST_DIGITS for cell in state.failed if cell not in self.moving}
+        # The values of cells where a formula is worked, the spills there, and the cells into which these go.
+        self.spills = {cell: size for cell, size in state.spills.items() if cell not in self.moving}
+        self.owners = {cell: owner for cell, owner in state.owners.items() if owner not in self.moving}
+        self.known = {cell: value for cell, value in state.known.items() if self._is_steady(cell)}
         for cell in self.flow.ringed:
             self.known[cell] = Fault("RING")
-        self.spilled = {}
-        self.spills = {}
+        self.taken = []
         self.worker = Worker(mesh, self.known, self.spills)
 
     def hold(self, cell, row):
@@ -50,29 +56,39 @@ class Tracks:
 
     def value_row(self, cell):
         """The Row of the values of a cell."""
-        if cell in self.rows and cell not in self.mesh.sights:
-            return self.rows[cell]
         if cell in self.mesh.contents and cell not in self.flow.ranks:
-            return level_row(self.known[cell])
-        sources = [cell] if cell in self.flow.ranks else self.mesh.reaching(cell)
-        sources = [other for other in sorted(sources) if other not in self.flow.ringed]
+            return self.rows[cell] if cell in self.rows else level_row(self.known[cell])
+        sources = [cell] if cell in self.flow.ranks else sorted(self.mesh.reaching(cell))
+        sources = [other for other in sources if other not in self.flow.ringed]
         self._work_all(sources)
-        rows = [self.rows[other] for other in sources]
+        rows = [self.row_of(other) for other in sources]
         if cell in self.flow.ranks and not rows[0].has_grid():
             return rows[0]
-        work = PartWork(self, cell, sources)
-        return worked_row(self.ruler, all_marks(rows), work)
+        return worked_row(self.ruler, all_marks(rows), PartWork(self.ruler, cell, list(zip(sources, rows))))
+
+    def row_of(self, cell):
+        """The Row of what a formula that is worked tells."""
+        if cell in self.moving:
+            return self.rows[cell]
+        if cell not in self.spills:
+            return level_row(self.known[cell])
+        sheet, top, left, bottom, right = rect_from(cell, self.spills[cell][0], self.spills[cell][1])
+        columns = range(left, right + 1)
+        return level_row(Grid([
+            tuple([self.known[(sheet, row, column)] for column in columns]) for row in range(top, bottom + 1)
+        ]))
 
     def take(self, cell, thing):
         """Lets a cell, and those into which it spills, have what a thing tells, where a formula is worked next."""
         if not isinstance(thing, Grid):
             self.known[cell] = thing
             return
+        self.taken.append(cell)
         self.spills[cell] = (thing.height, thing.width)
         for other, value in zip(cells_of(rect_from(cell, thing.height, thing.width)), thing.cells()):
             self.known[other] = value
             if other != cell:
-                self.spilled[other] = True
+                self.owners[other] = cell
 
     def work_at(self, cell, formula, sight):
         """The thing that a formula tells in a cell, by what was taken."""
@@ -85,19 +101,26 @@ class Tracks:
 
     def forget_taken(self):
         """Forgets all spills that were taken."""
-        for cell in self.spilled:
-            del self.known[cell]
-        self.spilled.clear()
-        self.spills.clear()
+        for cell in self.taken:
+            height, width = self.spills.pop(cell)
+            for other in cells_of(rect_from(cell, height, width)):
+                if other != cell:
+                    del self.known[other]
+                    del self.owners[other]
+        self.taken.clear()
+
+    def _is_steady(self, cell):
+        """Whether the value that a cell has in the State does not hang on what the holders hold."""
+        return cell not in self.moving and self.state.owners.get(cell) not in self.moving
 
     def _spilling(self, cell, grid):
         """A Grid as it is spilled by a cell, or the fault SPILL."""
         if cell[1] + grid.height - 1 > ROWS or cell[2] + grid.width - 1 > COLUMNS:
             return Fault("SPILL")
         for other in cells_of(rect_from(cell, grid.height, grid.width)):
-            if other != cell and (other in self.mesh.contents or other in self.spilled):
+            if other != cell and (other in self.mesh.contents or other in self.owners):
                 return Fault("SPILL")
-        return Grid([tuple([not_blank(value) for value in row]) for row in grid.rows])
+        return made_grid(tuple([tuple([not_blank(value) for value in row]) for row in grid.rows]), None)
 
     def _work_all(self, cells):
         """Works some formulas, and all on which they hang; an error if one of them is not told."""
@@ -126,15 +149,19 @@ class Tracks:
 
     def _worked(self, work, cells):
         """The Row of a formula that is worked with what some cells have."""
-        turning = [cell for cell in cells if not self.rows[cell].is_constant]
+        turning = []
         # Values that do not turn are taken once; spills each time, as others may spill into the same cells elsewhere.
         grids = []
         for cell in cells:
-            if self.rows[cell].is_constant:
-                if self.rows[cell].has_grid():
-                    grids.append(cell)
-                else:
-                    self.known[cell] = self.rows[cell].spans[0]
+            row = self.rows.get(cell)
+            if row is None:
+                continue
+            if not row.is_constant:
+                turning.append(cell)
+            elif row.has_grid():
+                grids.append(cell)
+            else:
+                self.known[cell] = row.spans[0]
         work.use([(cell, self.rows[cell]) for cell in turning + grids])
         if not turning:
             return level_row(work.told_level())
@@ -186,25 +213,27 @@ class FormulaWork:
 
 
 class PartWork:
-    """The value of a cell among those that some formulas spill: of the first one of these that spills into it."""
+    """The value of a cell among those that some formulas tell: of the first one of these that spills into it.
 
-    def __init__(self, tracks, cell, sources):
-        self.tracks = tracks
+    pairs are those of the cells of the formulas, in order, and their Rows.
+    """
+
+    def __init__(self, ruler, cell, pairs):
+        self.ruler = ruler
         self.cell = cell
-        self.sources = sources
+        self.pairs = pairs
 
     def told_on(self, first, last):
         """The value on the span between two marks."""
-        things = [self.tracks.rows[other].thing_on(self.tracks.ruler, first, last) for other in self.sources]
-        return self._part(things)
+        return self._part([(other, row.thing_on(self.ruler, first, last)) for other, row in self.pairs])
 
     def told_at(self, mark):
         """The value at a mark."""
-        return self._part([self.tracks.rows[other].thing_at(self.tracks.ruler, mark) for other in self.sources])
+        return self._part([(other, row.thing_at(self.ruler, mark)) for other, row in self.pairs])
 
     def _part(self, things):
         """The value of the cell by the things of all formulas."""
-        for other, thing in zip(self.sources, things):
+        for other, thing in things:
             if not isinstance(thing, Grid):
                 if other == self.cell:
                     return thing
