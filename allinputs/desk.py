@@ -1,13 +1,16 @@
 """The desk: a book, promises that are kept for all inputs, and what can be taken back."""
 
 from allinputs.alike import cell_held
-from allinputs.book import Book, check_book, place_of, places_of, sheet_at
+from allinputs.book import Book, check_book, mesh_of, place_of, places_of, sheet_at
 from allinputs.checks import check_list, check_string
 from allinputs.deeds import check_deed, do_deed, does_follow
 from allinputs.errors import Broken, NothingToRedo, NothingToUndo, NotMade, NotTold, Taken, TooHigh
+from allinputs.holdings import unlike
 from allinputs.marks import check_ends
 from allinputs.promises import Judge, asked_vow, vow_text, with_places
+from allinputs.states import touched
 from allinputs.told import Told
+from allinputs.verdicts import Verdict
 
 
 class Moment:
@@ -20,6 +23,37 @@ class Moment:
     def plain_texts(self):
         """The list of the plain texts of the Vows."""
         return [vow_text(self.book, vow) for vow in self.vows]
+
+
+class Judging:
+    """The verdicts on the Vows of a Moment behind deeds; those that the deeds do not touch still hold."""
+
+    def __init__(self, before, after):
+        self.before = before
+        self.after = after
+        self.judge = Judge(after.book)
+        self.touched = None
+        if before.vows and before.book.held.tabs == after.book.held.tabs:
+            one, other = before.book.held, after.book.held
+            self.meshes = (mesh_of(before.book), mesh_of(after.book))
+            self.touched = {cell: True for cell in unlike(one.texts, other.texts) + list(touched(one, other))}
+
+    def verdict_at(self, at):
+        """The Verdict on the Vow with a number."""
+        old, vow = self.before.vows[at], self.after.vows[at]
+        if vow is None:
+            return Verdict(False, None)
+        # The free cell is the second one: what it holds does not matter.
+        if self.touched is not None and old.places == vow.places:
+            if not any([self._is_touched(cell) for cell in vow.places[:1] + vow.places[2:]]):
+                return Verdict(True, None)
+        return self.judge.verdict_on(vow)
+
+    def _is_touched(self, cell):
+        """Whether the value of a cell, whatever the free cell holds, may be another one than ahead of the deeds."""
+        if cell in self.touched:
+            return True
+        return any([other in self.touched for mesh in self.meshes for other in mesh.reaching(cell)])
 
 
 class Desk:
@@ -57,16 +91,12 @@ class Desk:
             return []
         now = self._now()
         behind = _moment_behind(now, deeds)
-        judge = Judge(behind.book)
+        judging = Judging(now, behind)
         told = []
-        for text, vow in zip(now.plain_texts(), behind.vows):
-            where = None
-            if vow is not None:
-                verdict = judge.verdict_on(vow)
-                if verdict.is_kept:
-                    continue
-                where = verdict.where
-            told.append((text, where))
+        for at, text in enumerate(now.plain_texts()):
+            verdict = judging.verdict_at(at)
+            if not verdict.is_kept:
+                told.append((text, verdict.where))
         return told
 
     def keep(self, promise):
@@ -137,9 +167,9 @@ class Desk:
         for text, vow in zip(texts, behind.vows):
             if vow is None:
                 raise Broken(text, None)
-        judge = Judge(behind.book)
-        for text, vow in zip(texts, behind.vows):
-            verdict = judge.verdict_on(vow)
+        judging = Judging(now, behind)
+        for at, text in enumerate(texts):
+            verdict = judging.verdict_at(at)
             if not verdict.is_kept:
                 raise Broken(text, verdict.where)
         self._go_on(behind)
