@@ -33,6 +33,7 @@ class Judging:
         self.after = after
         self.judge = Judge(after.book)
         self.touched = None
+        self.meshes = ()
         if before.vows and before.book.held.tabs == after.book.held.tabs:
             one, other = before.book.held, after.book.held
             self.meshes = (mesh_of(before.book), mesh_of(after.book))

@@ -166,11 +166,78 @@ raises NotAFormula(at=10)
 >>> [sort_rows(book, "A1:A3", [(1, True)]), [book.text_of(place) for place in ("A1", "A2", "A3")], open_cells(book, "A2", down=False), book.text_of("B2"), book.text_of("C2")]
 [None, ['4', '2', '1'], None, '2', '=B2*A$1']
 """,
-    # behind [134], what formats.py alone is needed for
+    # behind [126]
     r"""
+>>> from allinputs.curves import curve_text
+>>> from allinputs.ends import greatest, least
+>>> from allinputs.goals import goal
+>>> from allinputs.spans import Span
+>>> from allinputs.told import Told
+>>> book = Book()
+>>> book.put("B1", "=IF(A1>0,1/A1,A1*A1-2)")
+>>> told = Told(book, "A1")
+>>> [(curve_text(one.value), one.span == Span(None, 0)) for one in told.pieces("B1")[:1]]
+[('x^2 - 2', True)]
+>>> [str(told.value_at("B1", number)) for number in (-3, 0, 4)]
+['7', '-2', '1/4']
+>>> goal(told, "B1", 0) == (Point(x * x - 2, -2, -1),)
+True
+>>> [str(one) for one in goal(told, "B1", 7)]
+['-3', '1/7']
+>>> [str(part) for part in least(told, "B1")], [str(part) for part in greatest(told, "B1")]
+(['-2', '0', 'True'], ['None', '0', 'False'])
+""",
+    # behind [129]
+    r"""
+>>> from allinputs.rests import is_single, rests, values_at_rest
+>>> from allinputs.going import Going
+>>> from allinputs.courses import rounds_row
+>>> ring = Book()
+>>> ring.put("A1", "=B1/2+1/B1")
+>>> ring.put("B1", "=A1")
+>>> [is_single(ring, "A1"), rests(ring, "A1") == isolate(x * x - 2, None, None)]
+[True, True]
+>>> slow = Book()
+>>> slow.put("A1", "=IF(A1<8,A1/2+3,A1)")
+>>> [str(one) for one in rests(slow, "A1", 0, 8)], rests(slow, "A1")[1:] == (Ratio(8), Span(8, None)), values_at_rest(slow, "A1", 6)["Sheet1!A1"] == Ratio(6)
+(['6', '8'], True, True)
+>>> [str(one.value) for one in rounds_row(slow, {}, "A1", "A1", 2, 0, 8)[::2]]
+['9/2', '8']
+>>> going = Going(slow, {"A1": 4})
+>>> [str(one) for one in going.course("A1", 3)], going.returns(100)
+(['4', '5', '11/2', '23/4'], None)
+""",
+    # behind [134]
+    r"""
+>>> from allinputs.filters import fewest_lifted, kept, selectable
 >>> from allinputs.formats import Format, shown
+>>> from allinputs.pivots import Pivot
+>>> from allinputs.rowtexts import read_rows, rows_text
 >>> [shown(Ratio(-12345, 10), Format(text)) for text in ("0.0#;(0.00)", "$ #,##0")]
 ['(1234.50)', '-$ 1,235']
+>>> grid, tests = Grid([["a", Ratio(2)], ["b", Ratio(5)], ["A", Ratio(3)]]), [(1, "a"), (2, ">2")]
+>>> [kept(grid, tests), fewest_lifted(grid, tests, 2), selectable(grid, [], 1), read_rows("a,\"b\"\"\""), rows_text([["a,b", ""]])]
+[[3], [0], ['a', 'b'], [['a', 'b"']], '"a,b",\n']
+>>> pivot = Pivot(grid, [1], [], 2, "SUM")
+>>> [pivot.row_keys(), pivot.rows_of(("A",), None), str(pivot.figure(None, None))]
+[[('a',), ('b',)], [1, 3], '10']
+""",
+    # behind [136]
+    r"""
+>>> from allinputs.desk import Desk
+>>> from allinputs.promises import broken_at, holds, promise_text
+>>> book = Book()
+>>> [book.put("A1", "1"), book.put("A2", "=1/(A1*A1+1)"), book.put("A3", "=A1*A1-2")]
+[None, None, None]
+>>> [promise_text(book, "$a$2 from 0 to 1.50 for A1"), holds(book, "A3 at least -2 for A1"), holds(book, "A3 reaches 2 for A1 from 3 to 4"), broken_at(book, "A2 never fails for A1")]
+['Sheet1!A2 from 0 to 1.5 for Sheet1!A1', True, False, None]
+>>> desk = Desk(book)
+>>> [desk.keep("A2 at most 1 for A1"), desk.do(("insert_rows", "Sheet1", 2, 1)), desk.promises(), desk.do(("put", "A2", "=A3*A4")), desk.changed_by([("put", "A4", "=(A1-1)*(A1+1)-1")], "A1")]
+[None, None, ('Sheet1!A3 at most 1 for Sheet1!A1',), None, ()]
+>>> desk.do(("delete_rows", "Sheet1", 3, 1))
+raises Broken(promise='Sheet1!A3 at most 1 for Sheet1!A1', where=None)
+>>> [desk.trial([("put", "A3", "=1/A1")])[0][0], desk.undo(), desk.undo(), desk.current() == book, desk.redo(), desk.promises()]
+['Sheet1!A3 at most 1 for Sheet1!A1', None, None, True, None, ('Sheet1!A3 at most 1 for Sheet1!A1',)]
 """,
 ]
 

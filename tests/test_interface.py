@@ -45,6 +45,21 @@ FUNCTIONS = {
     "moving": ["move_cells(book, area, place)", "copy_cells(book, area, place)"],
     "filling": ["fill_cells(book, area, onto)"],
     "sorting": ["sort_rows(book, area, by)"],
+    "splits": ["told_row(work, low=None, high=None)"],
+    "goals": ["goal(told, cell, ratio)", "where_sign(told, cell, sign)"],
+    "breaks": ["failing(told, cell)", "first_break(told, cell, ratio, up=True)"],
+    "ends": ["least(told, cell)", "greatest(told, cell)"],
+    "tables": ["what_if(told, cells, ratios)", "steps_of(told, cell)"],
+    "alike": ["parts_from(one, other, cell, peer)", "alike_places(one, other)"],
+    "rests": ["is_single(book, place)", "rests(book, place, low=None, high=None)", "values_at_rest(book, place, ratio)"],
+    "courses": ["rounds_row(book, begin, free, cell, many, low=None, high=None)"],
+    "rowtexts": ["read_rows(text, mark=',')", "rows_text(rows, mark=',')"],
+    "filters": ["kept(grid, tests)", "barring(grid, tests, row)", "selectable(grid, tests, column)",
+                "fewest_lifted(grid, tests, many)", "top_rows(grid, column, many)"],
+    "pivots": ["changes(pivot, other)"],
+    "bookfile": ["book_text(book)", "read_book(text)"],
+    "exchange": ["content_text(value)", "area_rows(book, area)", "put_rows(book, place, rows)"],
+    "promises": ["promise_text(book, promise)", "holds(book, promise)", "broken_at(book, promise)"],
 }
 ARITHMETIC = ["__eq__", "__add__", "__radd__", "__sub__", "__rsub__", "__mul__", "__rmul__", "__neg__"]
 CLASSES = {
@@ -69,6 +84,15 @@ CLASSES = {
     "book.Book()": ["__eq__", "put(place, content)", "text_of(place)", "value_of(place)", "holding()", "sheets()",
                     "add_sheet(name)", "rename_sheet(name, fresh)", "drop_sheet(name)", "define(name, text)",
                     "undefine(name)", "names()", "copied()"],
+    "rowparts.Piece(span, value)": ["__eq__"],
+    "rowparts.Edge(point, value)": ["__eq__"],
+    "told.Told(book, place, low=None, high=None)": ["pieces(cell)", "value_at(cell, ratio)"],
+    "going.Going(book, begin)": ["go(many)", "rounds()", "now_at(place)", "is_still()", "course(place, many)",
+                                 "returns(many)"],
+    "pivots.Pivot(grid, row_columns, column_columns, measured, measure)": [
+        "row_keys()", "column_keys()", "rows_of(row_key, column_key)", "figure(row_key, column_key)", "table()"],
+    "desk.Desk(book)": ["current()", "promises()", "do(deed)", "attempt(deeds)", "trial(deeds)", "keep(promise)",
+                        "release(promise)", "undo()", "redo()", "changed_by(deeds, place, low=None, high=None)"],
 }
 
 
