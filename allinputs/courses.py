@@ -4,7 +4,8 @@ from allinputs.book import cell_at, check_book, mesh_of, state_of
 from allinputs.checks import check_range, check_string
 from allinputs.errors import BadValue
 from allinputs.holdings import held_with
-from allinputs.marks import Ruler, check_ends
+from allinputs.marks import Ruler
+from allinputs.points import check_ends
 from allinputs.ratios import Ratio
 from allinputs.rounds import begin_of, check_gone_round, is_begin, mesh_without, placed_formulas
 from allinputs.rows import are_alike_rows, level_row, told_parts, x_row

@@ -6,7 +6,7 @@ from allinputs.checks import check_list, check_string
 from allinputs.deeds import check_deed, do_deed, does_follow
 from allinputs.errors import Broken, NothingToRedo, NothingToUndo, NotMade, NotTold, Taken, TooHigh
 from allinputs.holdings import unlike
-from allinputs.marks import check_ends
+from allinputs.points import check_ends
 from allinputs.promises import Judge, asked_vow, vow_text, with_places
 from allinputs.states import touched
 from allinputs.told import Told

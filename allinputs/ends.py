@@ -85,9 +85,9 @@ def _outermost(told, cell, side):
     places = [place for number, place in found.reached if order_numbers(number, best) == 0]
     if places:
         where = joined(places)[0]
-        return _number_at(found.reached, where, best), where, True
+        return _number_told_at(found.reached, where, best), where, True
     where = _first_place([place for number, place in found.near if order_numbers(number, best) == 0])
-    return _number_at(found.near, where, best), where, False
+    return _number_told_at(found.near, where, best), where, False
 
 
 def _first_place(places):
@@ -98,7 +98,7 @@ def _first_place(places):
     return None
 
 
-def _number_at(pairs, where, otherwise):
+def _number_told_at(pairs, where, otherwise):
     """The number of the first pair with a Point; another one for any other place."""
     if isinstance(where, Point):
         for number, place in pairs:

@@ -1,7 +1,6 @@
 """Marks: the points at which a range ends or is cut, and the spans between them."""
 
 from allinputs.curves import Curve
-from allinputs.errors import BadValue
 from allinputs.members import member
 from allinputs.points import Point
 from allinputs.polys import Poly
@@ -84,16 +83,6 @@ def as_place(point):
     """A Point as it is told: as a Ratio if it is one."""
     ratio = point.ratio()
     return point if ratio is None else ratio
-
-
-def check_ends(low, high):
-    """The ends of a range: Ratios, or None for none."""
-    if low is not None and not is_ratio(low):
-        raise BadValue(low)
-    if high is not None and not is_ratio(high):
-        raise BadValue(high)
-    if low is not None and high is not None and as_ratio(high).compare(low) <= 0:
-        raise BadValue(high)
 
 
 def is_between(ratio, low, high):

@@ -123,6 +123,16 @@ class Point:
         return cut_text(-least - 1 if least < 0 else least, places, least < 0)
 
 
+def check_ends(low, high):
+    """The ends of an interval: Ratios, or None for none."""
+    if low is not None and not is_ratio(low):
+        raise BadValue(low)
+    if high is not None and not is_ratio(high):
+        raise BadValue(high)
+    if low is not None and high is not None and as_ratio(high).compare(low) <= 0:
+        raise BadValue(high)
+
+
 def count_roots(poly, low, high):
     """How many unlike real roots a Poly that is not 0 has in an open interval; None is no end."""
     return len(_places_in(poly, low, high)[1])
@@ -145,12 +155,7 @@ def point_in(parts, place):
 def _places_in(poly, low, high):
     """The parts of the plain form of a Poly and the places of its roots in an open interval."""
     check_some_poly(poly)
-    if low is not None and not is_ratio(low):
-        raise BadValue(low)
-    if high is not None and not is_ratio(high):
-        raise BadValue(high)
-    if low is not None and high is not None and as_ratio(high).compare(low) <= 0:
-        raise BadValue(high)
+    check_ends(low, high)
     parts = plain_parts(poly.parts)
     bound = whole_power(2, bound_of(parts))
     first = Ratio(-bound) if low is None else as_ratio(low)

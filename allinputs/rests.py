@@ -9,8 +9,8 @@ from allinputs.errors import BadValue, NotTold, TooHigh
 from allinputs.evaluating import Worker
 from allinputs.grids import Grid
 from allinputs.holdings import held_with
-from allinputs.marks import Ruler, check_ends, x_curve
-from allinputs.points import Point
+from allinputs.marks import Ruler, x_curve
+from allinputs.points import Point, check_ends
 from allinputs.polys import Poly
 from allinputs.ratios import Ratio, as_ratio, is_ratio
 from allinputs.reaches import ALONE

@@ -36,22 +36,31 @@ class Row:
 
     def thing_on(self, ruler, first, last):
         """The thing on the span between two marks, or ends, of a range, between which it does not turn."""
-        thing = self.spans[self._many_up_to(first)]
+        thing = self.thing_behind(first)
         return thing_on(thing, ruler, first, last) if has_x(thing) else thing
 
     def thing_at(self, ruler, mark):
         """The thing at a mark."""
+        thing, is_there = self.thing_near(ruler, mark)
+        if is_there or not has_x(thing):
+            return thing
+        if mark.number not in self.known:
+            self.known[mark.number] = thing_at(thing, mark.point)
+        return self.known[mark.number]
+
+    def thing_behind(self, mark):
+        """The thing on the span that lies behind a mark, or begins with it; None is the lower end of all numbers."""
+        return self.spans[self._many_up_to(mark)]
+
+    def thing_near(self, ruler, mark):
+        """The thing at a mark, and True; or that on the span in which it lies, and False."""
         for side, end in enumerate((ruler.low, ruler.high)):
             if end is not None and end.number == mark.number:
-                return self.ends[side]
+                return self.ends[side], True
         many = self._many_up_to(mark)
         if many > 0 and self.marks[many - 1].number == mark.number:
-            return self.points[many - 1]
-        if not has_x(self.spans[many]):
-            return self.spans[many]
-        if mark.number not in self.known:
-            self.known[mark.number] = _thing_at(self.spans[many], mark.point)
-        return self.known[mark.number]
+            return self.points[many - 1], True
+        return self.spans[many], False
 
     def has_grid(self):
         """Whether one of the things is a Grid."""
@@ -234,10 +243,10 @@ def thing_on(thing, ruler, first, last):
     return Strand(thing.curve, ruler.span_between(first, last)) if isinstance(thing, Strand) else thing
 
 
-def _thing_at(thing, point):
+def thing_at(thing, point):
     """What a thing on a span is at a Ratio or a Point in it."""
     if isinstance(thing, Grid):
-        return made_grid(tuple([tuple([_thing_at(value, point) for value in row]) for row in thing.rows]), None)
+        return made_grid(tuple([tuple([thing_at(value, point) for value in row]) for row in thing.rows]), None)
     if not isinstance(thing, Strand):
         return thing
     return member(point, thing.curve) if isinstance(point, Point) else thing.curve.worth_at(point)

@@ -1,7 +1,8 @@
 """Told rows of functions of one number."""
 
 from allinputs.errors import BadValue
-from allinputs.marks import Ruler, check_ends
+from allinputs.marks import Ruler
+from allinputs.points import check_ends
 from allinputs.rows import told_parts, worked_row
 
 # What can be passed by mistake and is no function is known by the name of its class.

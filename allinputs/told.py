@@ -5,7 +5,8 @@ from allinputs.checks import check_string
 from allinputs.curves import Curve
 from allinputs.errors import BadValue
 from allinputs.holdings import held_with
-from allinputs.marks import Ruler, check_ends, is_between
+from allinputs.marks import Ruler, is_between
+from allinputs.points import check_ends
 from allinputs.ratios import Ratio, as_ratio
 from allinputs.rowparts import Edge
 from allinputs.rows import told_parts, x_row

@@ -6,7 +6,7 @@ from allinputs.evaluating import Worker
 from allinputs.flows import Flow
 from allinputs.grids import Grid, made_grid
 from allinputs.rects import cells_of, has_cell, rect_from
-from allinputs.rows import all_marks, level_row, worked_row
+from allinputs.rows import all_marks, level_row, thing_at, thing_on, worked_row
 from allinputs.states import not_blank, touched_between
 from allinputs.values import Fault
 from allinputs.wholes import MOST_DIGITS
@@ -225,21 +225,32 @@ class PartWork:
 
     def told_on(self, first, last):
         """The value on the span between two marks."""
-        return self._part([(other, row.thing_on(self.ruler, first, last)) for other, row in self.pairs])
+        for other, row in self.pairs:
+            thing = row.thing_behind(first)
+            if self._has_part(other, thing):
+                return thing_on(self._part(other, thing), self.ruler, first, last)
+        return None
 
     def told_at(self, mark):
         """The value at a mark."""
-        return self._part([(other, row.thing_at(self.ruler, mark)) for other, row in self.pairs])
-
-    def _part(self, things):
-        """The value of the cell by the things of all formulas."""
-        for other, thing in things:
-            if not isinstance(thing, Grid):
-                if other == self.cell:
-                    return thing
-            elif has_cell(rect_from(other, thing.height, thing.width), self.cell):
-                return thing.rows[self.cell[1] - other[1]][self.cell[2] - other[2]]
+        for other, row in self.pairs:
+            thing, is_there = row.thing_near(self.ruler, mark)
+            if self._has_part(other, thing):
+                part = self._part(other, thing)
+                return part if is_there else thing_at(part, mark.point)
         return None
+
+    def _has_part(self, other, thing):
+        """Whether a formula that tells a thing gives the cell its value."""
+        if not isinstance(thing, Grid):
+            return other == self.cell
+        return has_cell(rect_from(other, thing.height, thing.width), self.cell)
+
+    def _part(self, other, thing):
+        """The value that a formula that tells a thing gives the cell."""
+        if not isinstance(thing, Grid):
+            return thing
+        return thing.rows[self.cell[1] - other[1]][self.cell[2] - other[2]]
 
 
 def raise_failure(failure):
