@@ -17,10 +17,19 @@ class AlikeRows:
     def place_of(self, row):
         """The place of a row, or of one that is alike to it; None if there is none."""
         key = _key_of(row)
-        if key is not None and key in self.places:
+        if key is None:
+            return self._first_alike(row)
+        if key in self.places:
             return self.places[key]
-        for place in range(len(self.rows)) if key is None else self.special:
+        for place in self.special:
             if _are_alike(row, self.rows[place]):
+                return place
+        return None
+
+    def _first_alike(self, row):
+        """The place of the first of all rows that is alike to one; None if there is none."""
+        for place, peer in enumerate(self.rows):
+            if _are_alike(row, peer):
                 return place
         return None
 

@@ -46,6 +46,9 @@ ALLOWED = (
 CHANGING = {"append", "extend", "insert", "pop", "remove", "reverse", "clear", "update", "setdefault", "add", "discard"}
 HEAPS = {"heappush", "heappop", "heapify"}
 COMPARING = {"__eq__", "__ne__", "__lt__", "__le__", "__gt__", "__ge__", "__len__", "__str__", "__repr__"}
+WALKED = {"range", "zip", "enumerate", "reversed"}
+VIEWS = {"items", "keys", "values"}
+TAKERS = {"list", "tuple", "dict", "sorted", "sum", "any", "all", "enumerate", "zip"}
 
 
 def sources():
@@ -132,6 +135,76 @@ def wrong_beside_heaps(trees):
     return [f"{place}: {ast.unparse(node)}" for place, function in run_by_operators(trees, COMPARING)
             if function.name != "__init__" for node in ast.walk(function)
             if isinstance(node, ast.Attribute) and isinstance(node.ctx, (ast.Store, ast.Del))]
+
+
+def is_called(node, names):
+    """Whether a node is a call of one of some functions, by its bare name."""
+    return isinstance(node, ast.Call) and isinstance(node.func, ast.Name) and node.func.id in names
+
+
+def is_view(node):
+    """Whether a node is a call of the items, keys or values of a dict."""
+    return isinstance(node, ast.Call) and isinstance(node.func, ast.Attribute) and node.func.attr in VIEWS
+
+
+def stands_on_the_spot(node, above):
+    """Whether a range, zip, enumerate, reversed or view, or a name that keeps a range, is used where it stands."""
+    parent = above[node]
+    if isinstance(parent, (ast.For, ast.comprehension)):
+        return parent.iter is node
+    if isinstance(parent, ast.Compare):
+        is_keys = is_view(node) and node.func.attr == "keys"
+        is_asked = len(parent.ops) == 1 and parent.left is not node and isinstance(parent.ops[0], (ast.In, ast.NotIn))
+        return is_asked and (is_keys or is_called(node, {"range"}) or isinstance(node, ast.Name))
+    if not isinstance(parent, ast.Call) or not parent.args or parent.args[0] is not node:
+        return False
+    if isinstance(parent.func, ast.Attribute):
+        return parent.func.attr == "join" and isinstance(parent.func.value, ast.Constant)
+    if is_called(parent, {"min", "max"}):
+        return len(parent.args) == 1
+    if is_called(parent, {"len"}):
+        return is_called(node, {"range"}) or is_view(node) or isinstance(node, ast.Name)
+    if is_called(parent, {"reversed"}):
+        return is_called(node, {"range"}) or isinstance(node, ast.Name)
+    return is_called(parent, TAKERS | LIBRARY["itertools"])
+
+
+def is_kept_range(node, above):
+    """Whether a range is assigned to a plain local variable, once, that is then used as a range may be."""
+    parent = above[node]
+    if not is_called(node, {"range"}) or not isinstance(parent, ast.Assign) or len(parent.targets) != 1:
+        return False
+    function = parent
+    while function in above and not isinstance(function, ast.FunctionDef):
+        function = above[function]
+    if not isinstance(parent.targets[0], ast.Name) or not isinstance(function, ast.FunctionDef):
+        return False
+    word = parent.targets[0].id
+    uses = [inner for inner in ast.walk(function) if isinstance(inner, ast.Name) and inner.id == word]
+    return bound_names(function).count(word) == 1 and all(
+        use is parent.targets[0] or stands_on_the_spot(use, above) or is_indexed(use, above) for use in uses)
+
+
+def is_indexed(use, above):
+    """Whether a name is that of which one item is read."""
+    parent = above[use]
+    return (isinstance(parent, ast.Subscript) and parent.value is use and isinstance(parent.ctx, ast.Load)
+            and not isinstance(parent.slice, ast.Slice))
+
+
+def wrong_iterations(trees):
+    """The places of ranges, zips, enumerates, reverseds and views that are not walked where they stand.
+
+    Narrower than the rule: of what may be kept in a local variable, the package keeps ranges alone.
+    """
+    wrong = []
+    for name, tree in trees.items():
+        above = {inner: node for node in ast.walk(tree) for inner in ast.iter_child_nodes(node)}
+        for node in ast.walk(tree):
+            if is_called(node, WALKED) or is_view(node):
+                if not stands_on_the_spot(node, above) and not is_kept_range(node, above):
+                    wrong.append(f"{name}.py:{node.lineno}: {ast.unparse(node)}")
+    return wrong
 
 
 def run_by_operators(trees, only=None):
@@ -460,6 +533,32 @@ class Rules(unittest.TestCase):
                 "        return made(other)\n    def change(self):\n        self.n = 1\n"
                 "def made(other):\n    return Box(other)\n")
         self.assertEqual(wrong_beside_heaps({"box": ast.parse(text), "heaps": heaps}), [])
+
+    def test_ranges_are_walked_on_the_spot(self):
+        self.assertEqual(wrong_iterations(self.trees), [])
+
+    def test_ranges_that_are_not_walked_on_the_spot_are_seen(self):
+        for line in ("for k in range(3) if n else rows:\n        print(k)",
+                     "for k in rows if n else range(3):\n        print(k)",
+                     "return range(3)", "return [k for k in n or rows.items()]", "return list(range(3) if n else rows)",
+                     "rows = range(3)\n    return rows", "k = rows\n    k = range(4)\n    return list(k)",
+                     "k = range(3)\n    return list(k if n else rows)",
+                     "k = range(3) if n else rows\n    return list(k)", "k = range(3)\n    return k[1:]",
+                     "k = range(3)\n    return told(k)", "self.k = range(3)",
+                     "k = [range(3)]\n    return k", "k = zip(n, rows)\n    return list(k)", "return zip(n, rows)",
+                     "return set(range(3))", "return list(reversed(zip(n, rows)))", "return len(enumerate(rows))",
+                     "return reversed(rows)", "return range(3) == n", "return n in rows.values()", "a, *b = range(3)",
+                     "return max(range(3), n)", "return list(zip(rows, range(3)))", "return told(rows.items())"):
+            text = f"def made(n, rows, self):\n    {line}\n"
+            self.assertEqual(len(wrong_iterations({"box": ast.parse(text)})), 1, text)
+        for line in ("for k in range(3):\n        print(k)", "return [k for k, _ in enumerate(rows) if k in range(3)]",
+                     "return list(range(3)) if n else rows", "for k in list(range(3)) if n else rows:\n        print(k)",
+                     "k = range(3)\n    return [a + b for a in k for b in k] + [k[1], len(k)]",
+                     "return list(reversed(range(3)))", "return len(rows.items()) + len(range(3))", "return n in rows.keys()",
+                     "return max(range(3))", "return list(zip(rows, n))", "return list(enumerate(range(3)))",
+                     "return ','.join(rows.values())", "k = range(3)\n    return list(reversed(k))"):
+            text = f"def made(n, rows):\n    {line}\n"
+            self.assertEqual(wrong_iterations({"box": ast.parse(text)}), [], text)
 
     def test_underscore_is_never_read(self):
         for place, node in self.walk(ast.Name):
